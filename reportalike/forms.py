@@ -1,0 +1,55 @@
+"""The plainest forms: numbers, NAMES, sets, and arguments with lists in the place of tuples."""
+
+
+def tupled(value):
+    """The value with a tuple in the place of each list, at any depth."""
+    if isinstance(value, (list, tuple)):
+        return tuple([tupled(part) for part in value])
+    return value
+
+
+def is_number(thing):
+    return isinstance(thing, int) and not isinstance(thing, bool)
+
+
+def is_name(thing):
+    if not isinstance(thing, str) or not 1 <= len(thing) <= 8:
+        return False
+    return all(["a" <= sign <= "z" for sign in thing])
+
+
+def is_tuple_of(thing, many):
+    """Whether thing is a tuple of just so many."""
+    return isinstance(thing, tuple) and len(thing) == many
+
+
+def is_ascending(row):
+    """Whether each one is below the next one; all of them can be compared."""
+    return all([first < second for first, second in zip(row, row[1:])])
+
+
+def are_names(thing):
+    """Whether thing is a tuple of NAMES, in whatever order."""
+    return isinstance(thing, tuple) and all([is_name(part) for part in thing])
+
+
+def is_name_set(thing):
+    return are_names(thing) and is_ascending(thing)
+
+
+def as_set(values):
+    """The ascending tuple of these values, each once."""
+    return tuple(sorted(set(values)))
+
+
+def pairs_among(row):
+    """All pairs of two places of a row, the earlier one first."""
+    return [(first, second) for at, first in enumerate(row) for second in row[at + 1:]]
+
+
+def subsets(row):
+    """The ascending list of the tuples of some of an ascending row, in its order."""
+    found = [()]
+    for part in row:
+        found = found + [ahead + (part,) for ahead in found]
+    return sorted(found)
