@@ -1,0 +1,125 @@
+"""One call or more of each function of the interface, with its arguments by the names that the document shows."""
+
+PLAN = (
+    ("draft", "sum", ("in", "old"), "out", (("fast", 0),)), ("quick", "guess", ("in",), "out", (("fast", 1),)),
+    ("tell", "sum", ("out", "out"), "page", ()),
+)
+LOOSE = (
+    ("a", "m", ("k",), "f", (("x", 1),)), ("b", "m", ("f",), "g", ()), ("c", "m", ("g",), "h", (("x", 0),)),
+    ("d", "m", ("h",), "k", ()),
+)
+TWO = (("a", "m", (), "f", (("x", 1),)), ("b", "n", (), "f", (("y", 1),)))
+COUNTS = (("in", "m"), ("old", "n"), ("out", "k"))
+RUN = (PLAN, (), COUNTS)
+FAST = (PLAN, ("fast",), (("in", "m"), ("out", "k")))
+RUNS = (RUN, FAST)
+SMALL = (((("p", "f", ("a",), "x", ()), ("q", "f", ("x",), "y", ())), (), (("a", "m"), ("x", "n"))),)
+A, X, Y = (0, "a"), (0, "x"), (0, "y")
+SEEN = ((A, X),)
+WORLD = ((("m", 0), ("n", 3)), (("f", (0,), 1), ("f", (1,), 2), ("f", (2,), 2)), 5)
+IN, OLD, PAGE, OUT = (0, "in"), (0, "old"), (0, "page"), (1, "out")
+PAIRS = ((IN, OUT), (OLD, OUT))
+WAITS = (("p", "q"),)
+OTHER = (("p", "q"), ("q", "p"), WORLD, "y")
+WRONG = (("q", "p"), WORLD, "y")
+
+CALLS = {
+    "steps": [
+        ("is_condition", {"thing": (("a", 1),)}), ("is_step", {"thing": PLAN[0]}), ("is_plan", {"thing": PLAN}),
+        ("holds", {"condition": (("a", 1), ("b", 0)), "variant": ("a",)}), ("running", {"plan": PLAN, "variant": ("fast",)}),
+        ("step_of", {"plan": PLAN, "name": "tell"}), ("flags_in", {"plan": PLAN}), ("methods_in", {"plan": PLAN}),
+        ("sheets_in", {"plan": PLAN}), ("variants_of", {"plan": PLAN}), ("made_at", {"plan": PLAN, "variant": ()}),
+        ("counts_needed", {"plan": PLAN, "variant": ()}), ("maker", {"plan": PLAN, "variant": ("fast",), "sheet": "out"}),
+        ("with_step", {"plan": PLAN[1:], "step": PLAN[0]}), ("without_step", {"plan": PLAN, "name": "draft"}),
+        ("renamed_sheets", {"plan": PLAN, "pairs": (("in", "out"), ("out", "in"))}),
+        ("step_of", {"plan": PLAN, "name": "none"}), ("with_step", {"plan": PLAN, "step": PLAN[1]}),
+    ],
+    "plans": [
+        ("clash", {"one": (("a", 1),), "other": (("a", 0),)}), ("is_sound", {"plan": PLAN}), ("is_sound", {"plan": TWO}),
+        ("unsound", {"plan": TWO}), ("is_unsound", {"plan": TWO, "thing": ("twice", ("a", "b"), ("x", "y"))}),
+        ("one_order", {"plan": PLAN}), ("is_one_order", {"plan": PLAN, "thing": ("draft", "quick", "tell")}),
+        ("loose_ring", {"plan": LOOSE}), ("is_loose_ring", {"plan": LOOSE, "thing": ("a", "b", "c", "d")}),
+        ("unmade_at", {"plan": LOOSE, "sheet": "h"}), ("wanted", {"plan": PLAN}),
+        ("needed_at", {"plan": PLAN, "variant": (), "sheets": ("page",)}), ("needed_some", {"plan": PLAN, "sheets": ("page",)}),
+        ("needed_each", {"plan": PLAN, "sheets": ("page",)}),
+        ("told_alike", {"plan": PLAN, "sheet": "page", "one": (), "other": ("fast",)}),
+        ("felt_flags", {"plan": PLAN, "sheet": "page"}), ("one_order", {"plan": LOOSE}), ("loose_ring", {"plan": PLAN}),
+    ],
+    "runs": [
+        ("is_counts", {"thing": COUNTS}), ("is_run", {"thing": RUN}), ("is_runs", {"thing": RUNS}),
+        ("is_spot", {"runs": RUNS, "thing": (1, "out")}), ("is_seen", {"runs": RUNS, "thing": PAIRS}),
+        ("new_run", {"plan": PLAN, "variant": (), "counts": COUNTS}), ("held_sheets", {"run": RUN}),
+        ("mark_of", {"run": RUN, "sheet": "old"}), ("cleaned", {"run": RUN}), ("spots", {"runs": RUNS}),
+        ("pair_of", {"one": (1, "in"), "other": (0, "out")}), ("new_run", {"plan": PLAN, "variant": (), "counts": ()}),
+    ],
+    "worlds": [
+        ("is_world", {"thing": WORLD}), ("told_by", {"world": WORLD, "method": "f", "ins": (1,)}),
+        ("held_by", {"world": WORLD, "mark": "n"}), ("held_in", {"world": WORLD, "run": SMALL[0]}),
+        ("held_at", {"world": WORLD, "runs": SMALL, "spot": Y}), ("agrees", {"world": WORLD, "runs": SMALL, "seen": SEEN}),
+        ("first_broken", {"world": WORLD, "runs": SMALL, "seen": SEEN}), ("same_spots", {"world": WORLD, "runs": SMALL}),
+        ("asked_of", {"world": WORLD, "runs": SMALL}), ("cut_world", {"world": WORLD, "runs": SMALL}),
+        ("how_many_worlds", {"runs": SMALL, "many": 2}), ("nth_world", {"runs": SMALL, "many": 2, "number": 5}),
+        ("same_in_all", {"runs": SMALL, "seen": SEEN, "one": X, "other": Y, "many": 2}),
+        ("held_at", {"world": WORLD, "runs": SMALL, "spot": (0, "z")}),
+        ("first_broken", {"world": WORLD, "runs": SMALL, "seen": (((0, "z"), (1, "a")),)}),
+        ("same_in_all", {"runs": SMALL, "seen": SEEN, "one": X, "other": (1, "y"), "many": 2}),
+    ],
+    "free": [
+        ("classes_of", {"runs": RUNS, "seen": PAIRS}), ("how_many_classes", {"runs": RUNS, "seen": PAIRS}),
+        ("alike", {"runs": RUNS, "seen": PAIRS, "one": IN, "other": OLD}), ("alike_to", {"runs": RUNS, "seen": PAIRS, "one": IN}),
+        ("alike_pairs", {"runs": RUNS, "seen": PAIRS}), ("tells_all", {"runs": RUNS, "seen": PAIRS, "others": ((IN, OLD),)}),
+        ("free_world", {"runs": RUNS, "seen": PAIRS}), ("apart_paper", {"runs": RUNS, "seen": PAIRS, "one": IN, "other": PAGE}),
+        ("is_apart_paper", {"runs": SMALL, "seen": (), "one": A, "other": Y, "thing": WORLD}),
+        ("fewest_numbers", {"runs": RUNS, "seen": PAIRS, "one": IN, "other": PAGE}),
+        ("few_paper", {"runs": RUNS, "seen": PAIRS, "one": IN, "other": PAGE}),
+        ("alike_among", {"runs": RUNS, "seen": PAIRS, "one": IN, "other": PAGE, "many": 2}),
+        ("alike", {"runs": RUNS, "seen": PAIRS, "one": (0, "none"), "other": OLD}),
+        ("apart_paper", {"runs": RUNS, "seen": PAIRS, "one": IN, "other": OLD}),
+    ],
+    "why": [
+        ("why", {"runs": RUNS, "seen": PAIRS, "one": IN, "other": OLD}),
+        ("is_why", {"runs": RUNS, "seen": PAIRS, "one": IN, "other": OLD, "thing": (("seen", 0), ("seen", 1))}),
+        ("needless", {"runs": RUNS, "seen": PAIRS}), ("in_each", {"runs": RUNS, "seen": PAIRS, "one": IN, "other": OLD}),
+        ("only_by", {"runs": RUNS, "seen": PAIRS, "place": 0}), ("more_by", {"runs": RUNS, "seen": PAIRS, "one": IN, "other": PAGE}),
+        ("least_lots", {"runs": RUNS, "seen": PAIRS, "one": IN, "other": OLD}), ("fewest_lot", {"runs": RUNS, "seen": PAIRS}),
+        ("why", {"runs": RUNS, "seen": PAIRS, "one": IN, "other": PAGE}), ("only_by", {"runs": RUNS, "seen": PAIRS, "place": 2}),
+        ("needless", {"runs": RUNS, "seen": ((IN, (3, "out")),)}),
+    ],
+    "orders": [
+        ("is_waits", {"run": SMALL[0], "thing": WAITS}), ("ahead_of", {"run": SMALL[0], "waits": WAITS, "name": "q"}),
+        ("read_kind", {"run": SMALL[0], "waits": WAITS, "name": "q", "sheet": "x"}),
+        ("patterns", {"run": SMALL[0], "waits": (), "name": "q"}), ("is_order", {"run": SMALL[0], "waits": WAITS, "thing": ("p", "q")}),
+        ("how_many_orders", {"run": SMALL[0], "waits": WAITS}), ("nth_order", {"run": SMALL[0], "waits": (), "number": 1}),
+        ("number_of_order", {"run": SMALL[0], "waits": (), "order": ("q", "p")}),
+        ("left_in", {"run": SMALL[0], "order": ("q", "p"), "world": WORLD}),
+        ("same_for_all", {"runs": SMALL, "seen": SEEN, "place": 0, "waits": WAITS}),
+        ("right_for_all", {"runs": SMALL, "seen": SEEN, "place": 0, "waits": WAITS}),
+        ("again_for_all", {"runs": SMALL, "seen": (), "place": 0, "waits": ()}),
+        ("other_paper", {"runs": SMALL, "seen": (), "place": 0, "waits": ()}),
+        ("wrong_paper", {"runs": SMALL, "seen": (), "place": 0, "waits": (("q", "p"),)}),
+        ("is_other_paper", {"runs": SMALL, "seen": (), "place": 0, "waits": (), "thing": OTHER}),
+        ("is_wrong_paper", {"runs": SMALL, "seen": (), "place": 0, "waits": (), "thing": WRONG}),
+        ("loosest", {"run": SMALL[0], "waits": WAITS}), ("fewest_rounds", {"run": SMALL[0], "waits": WAITS, "hands": 2}),
+        ("ahead_of", {"run": SMALL[0], "waits": WAITS, "name": "none"}), ("loosest", {"run": SMALL[0], "waits": (("q", "p"),)}),
+        ("number_of_order", {"run": SMALL[0], "waits": WAITS, "order": ("q", "p")}),
+        ("other_paper", {"runs": SMALL, "seen": (), "place": 1, "waits": ()}),
+    ],
+}
+
+INTERFACE = {
+    "steps": "is_condition is_step is_plan holds running step_of flags_in methods_in sheets_in variants_of made_at counts_needed "
+             "maker with_step without_step renamed_sheets",
+    "plans": "clash is_sound unsound is_unsound one_order is_one_order loose_ring is_loose_ring unmade_at wanted needed_at "
+             "needed_some needed_each told_alike felt_flags",
+    "runs": "is_counts is_run is_runs is_spot is_seen new_run held_sheets mark_of cleaned spots pair_of",
+    "worlds": "is_world told_by held_by held_in held_at agrees first_broken same_spots asked_of cut_world how_many_worlds "
+              "nth_world same_in_all",
+    "free": "classes_of how_many_classes alike alike_to alike_pairs tells_all free_world apart_paper is_apart_paper "
+            "fewest_numbers few_paper alike_among",
+    "why": "why is_why needless in_each only_by more_by least_lots fewest_lot",
+    "orders": "is_waits ahead_of read_kind patterns is_order how_many_orders nth_order number_of_order left_in same_for_all "
+              "right_for_all again_for_all other_paper wrong_paper is_other_paper is_wrong_paper loosest fewest_rounds",
+}
+
+# What these return is a list; all others return no list at any depth.
+LISTS = ("variants_of", "alike_pairs", "only_by", "more_by", "least_lots", "patterns")
