@@ -142,10 +142,8 @@ def other_paper(runs, seen, place, waits):
     if unsure is None:
         raise NoPaper()
     name, first, second = unsure
-    one, other = order_by(flow, name, first), order_by(flow, name, second)
-    for order in (one, other):
-        flow.end(order, book)
-    return one, other, book.world(), flow.steps[name][3]
+    # The book has what this step and those that it reads from leave by each pattern, so the world has it, too.
+    return order_by(flow, name, first), order_by(flow, name, second), book.world(), flow.steps[name][3]
 
 
 def wrong_paper(runs, seen, place, waits):

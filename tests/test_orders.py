@@ -303,6 +303,20 @@ class ForAll(unittest.TestCase):
         self.assertIs(same_for_all((run,), (), 0, (("p", "r"), ("q", "r"))), True)
         self.assertIs(same_for_all((run,), (), 0, (("p", "r"),)), False)
 
+    def test_two_loose_reads_that_are_right_only_together(self):
+        plan = (("p", "f", ("s",), "a", ()), ("q", "f", ("t",), "b", ()), ("r", "g", ("a", "b"), "c", ()))
+        run = (plan, (), (("a", "m"), ("b", "n"), ("s", "k"), ("t", "l")))
+        beside = (plan[2:], (), (("a", "m"), ("b", "n")))
+        seen = (((0, "c"), (1, "c")),)
+        for waits in ((), (("p", "q"),), (("q", "p"),)):
+            self.assertIs(same_for_all((run, beside), seen, 0, waits), False)
+            self.assertIs(right_for_all((run, beside), seen, 0, waits), False)
+            self.assertIs(again_for_all((run, beside), seen, 0, waits), False)
+        early = (("r", "p"), ("r", "q"))
+        self.assertIs(right_for_all((run, beside), seen, 0, early), True)
+        self.assertIs(right_for_all((run, beside), (), 0, early), False)
+        self.assertIs(again_for_all((run, beside), seen, 0, early), False)
+
     def test_no_number(self):
         for name in ("same_for_all", "right_for_all", "again_for_all", "other_paper", "wrong_paper"):
             for place in (-1, 1, 10 ** 40):

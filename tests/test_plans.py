@@ -31,7 +31,14 @@ def drawn_ring(rng):
     return ring_of(many, {at: rng.choice(FLAGGED) for at in range(many)})
 
 
-DRAWN = DRAWN + drawn.draws(9, 150, drawn_ring)
+def drawn_rings(rng):
+    """A PLAN with several rings: each STEP makes a SHEET of its own and reads some of the others."""
+    names = "abcdef"[:rng.randint(3, 6)]
+    return tuple((name, "m", tuple("s" + rng.choice(names) for _ in range(rng.choice((1, 1, 2)))), "s" + name, rng.choice(FLAGGED))
+                 for name in names)
+
+
+DRAWN = DRAWN + drawn.draws(9, 150, drawn_ring) + drawn.draws(10, 300, drawn_rings)
 SOUND = [plan for plan in DRAWN if looks.sound(plan)]
 
 
@@ -104,6 +111,22 @@ class Sound(unittest.TestCase):
                     split = {one: (("x", 1), ("z", 0)), other: (("x", 0), ("y", 1))}
                     self.assertIs(is_sound(ring_of(many, split)), True)
 
+    def test_ring_beside_a_ring_that_never_runs_together(self):
+        long = (("x", 1),), (), (("x", 0),), ()
+        for turn in range(4):
+            for bad in ("a", "b", "c", "d"):
+                steps = []
+                for at, name in enumerate("abcd"):
+                    more = ("so",) if name == bad else ()
+                    steps.append((name, "m", ("s" + "dabc"[at], *more), "s" + name, long[(at + turn) % 4]))
+                plan = (*steps, ("o", "m", ("s" + bad,), "so", ()))
+                self.assertIs(is_sound(plan), False)
+                paper = unsound(plan)
+                self.assertEqual((paper[0], sorted(paper[1])), ("ring", [bad, "o"]))
+                self.assertIn(paper, papers(plan, paper[2]))
+                clear = (*steps, ("o", "m", ("s" + bad,), "sp", ()))
+                self.assertIs(is_sound(clear), True)
+
     def test_great_plans(self):
         letters = "abcdefghijklmnopqrstuvwxyz"
         tall = tuple((one + two, "m", ("s" + one + two,), "t" + one + two, (("f" + one + two, 1),))
@@ -143,7 +166,7 @@ class Sound(unittest.TestCase):
         self.assertIs(is_unsound(two, ("twice", ("b", "c"), ())), True)
         for bad in spoiled(paper) + spoiled(("twice", ("b", "c"), ("x",))) + list(PLAIN) + [
                 ("ring", ("a", "b", "a", "b"), ("x",)), ("ring", ("a", "b"), ()), ("ring", ("a",), ("x",)),
-                ("ring", ("a", "b"), ("y", "x")), ("ring", ("a", "b"), ("x", "x")), ("twice", ("c", "b"), ()),
+                ("ring", ("a", "b"), ("y", "x")), ("ring", ("a", "b"), ("x", "x")), ("ring", ("a", "z"), ("x",)), ("twice", ("c", "b"), ()),
                 ("twice", ("b", "b"), ()), ("twice", ("b", "c", "c"), ()), ("twice", ("b", "d"), ()),
                 ("twice", ("a", "b"), ("x",)), ("twice", ("b", "c")), ("twice", ("b", "c"), (), ()), ("ring", (), ("x",))]:
             self.assertIs(is_unsound(two, bad), False, bad)
@@ -195,7 +218,7 @@ class OneOrder(unittest.TestCase):
         for bad in spoiled(("c", "a", "b")) + [thing for thing in PLAIN if thing != ("a", "b", "c")] + [
                 ("b", "a", "c"), ("a", "b"), ("a", "b", "c", "c"), ("a", "b", "d"), ("a", "a", "b")]:
             self.assertIs(is_one_order(plan, bad), False)
-        for bad in spoiled(("b", "c", "d", "a")) + list(PLAIN) + [("b", "c"), ("a", "c", "b", "d"), ("x",)]:
+        for bad in spoiled(("b", "c", "d", "a")) + list(PLAIN) + [("b", "c"), ("a", "c", "b", "d"), ("x",), ("a", "x")]:
             self.assertIs(is_loose_ring(FOUR, bad), False)
 
 

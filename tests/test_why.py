@@ -128,11 +128,22 @@ class Why(unittest.TestCase):
             self.assertIs(is_why(SIDES, (), t, r, good), True)
         for bad in (told[:2], told[1:], told[::-1], (told[0], told[2], told[1]), (), (*told, ("made", p, r)), (*told, ("made", x, y)),
                     (*told, ("mark", p, q)), (*told, ("mark", x, p)), (*told, ("seen", 0)), (*told, ("seen", -1)), (*told, ("seen",)),
-                    (*told, ("mark", x)), (*told, ("mark", x, y, y)), (*told, ("like", x, y)), (*told, ("mark", x, (0, "z"))),
+                    (*told, ("mark", x)), (*told, ("mark", x, y, y)), (*told, ("like", x, y)), (*told, ("like", 0)),
+                    (("seen", 0), *told), (*told, ("mark", x, (0, "z"))),
                     (*told, ("mark", x, (1, "y"))), (*told, ()), told[0]):
             self.assertIs(is_why(SIDES, (), r, t, bad), False, bad)
         for bad in spoiled(told):
             self.assertIs(is_why(SIDES, (), r, t, bad), False, bad)
+
+    def test_made_by_one_method_that_read_as_many(self):
+        plan = (("a", "f", ("x",), "p", ()), ("b", "f", ("x", "x"), "q", ()), ("c", "g", ("x",), "r", ()), ("d", "f", ("x",), "s", ()),
+                ("e", "f", (), "t", ()), ("h", "g", (), "u", ()))
+        runs = ((plan, (), (("x", "m"),)),)
+        p, q, r, s, t, u = [(0, sheet) for sheet in "pqrstu"]
+        self.assertIs(is_why(runs, (), p, s, (("made", p, s),)), True)
+        for one, other in ((p, q), (p, r), (q, r), (p, t), (t, u), (t, p), (q, p), (u, r)):
+            self.assertIs(is_why(runs, (), one, other, (("made", one, other),)), False)
+            self.assertIs(is_why(runs, (), p, s, (("made", one, other), ("made", p, s))), False)
 
     def test_is_why_plain_things(self):
         for thing in PLAIN:
