@@ -3,7 +3,7 @@
 from reportalike.errors import NoNumber, NoOrder, NoPaper, NoSheet, NoStep
 from reportalike.books import Given
 from reportalike.flows import Flow, first_order, free_in, how_many_ways, order_by, sure_ends, without
-from reportalike.forms import are_names, as_set, is_ascending, is_name, is_tuple_of, subsets, tupled
+from reportalike.forms import are_names, as_set, is_ascending, is_tuple_of, subsets, tupled
 from reportalike.free import class_table
 from reportalike.groups import Links, free_book
 from reportalike.rows import ahead_table, only_fed
@@ -16,7 +16,7 @@ def is_waits(run, thing):
         return False
     feeders = {step[0]: [] for step in run[0]}
     for one, other in thing:
-        if one == other or one not in feeders or other not in feeders:
+        if one not in feeders or other not in feeders:
             return False
         feeders[other].append(one)
     return is_ascending(thing) and not only_fed(feeders)
@@ -184,7 +184,7 @@ def is_wrong_paper(runs, seen, place, waits, thing):
 
 def is_world_with(runs, seen, place, world, sheet):
     """Whether this is a WORLD that agrees with seen, and a SHEET of the RUN with this place."""
-    if not is_world(world) or not is_name(sheet) or sheet not in held_sheets(runs[place]):
+    if not is_world(world) or sheet not in held_sheets(runs[place]):
         return False
     return agrees(world, runs, seen)
 

@@ -6,7 +6,7 @@ import inspect
 import unittest
 
 from tests.calls import CALLS, INTERFACE, LISTS
-from tests.things import holds_list, listed
+from tests.things import PLAIN, holds_list, listed, spoiled
 
 
 def outcome(function, *row, **named):
@@ -62,6 +62,14 @@ class Rules(unittest.TestCase):
             if "thing" in arguments:
                 self.assertIs(function(**arguments), True)
                 self.assertIs(function(**{**arguments, "thing": listed(arguments["thing"])}), False)
+
+    def test_any_thing_can_be_handed_in(self):
+        for function, arguments in each_call():
+            if "thing" in arguments:
+                for thing in spoiled(arguments["thing"]):
+                    self.assertIs(function(**{**arguments, "thing": thing}), False, (function, thing))
+                for thing in PLAIN:
+                    self.assertIn(repr(function(**{**arguments, "thing": thing})), ("True", "False"), (function, thing))
 
     def test_arguments_stay_as_they_were(self):
         for function, arguments in each_call():

@@ -153,6 +153,8 @@ class Why(unittest.TestCase):
         self.assertIs(is_why(RUNS, ((A, C),), A, C, (("seen", False),)), False)
         self.assertIs(is_why(RUNS, ((A, B), (A, C)), A, C, (("seen", True),)), False)
         self.assertIs(is_why(RUNS, ((A, C),), A, C, (("seen", 0),) * 500), True)
+        self.assertIs(is_why(RUNS, ((A, C),), A, C, (("seen", 0), ("like", 0))), False)
+        self.assertIs(is_why(RUNS, ((A, C),), A, C, (("seen", 0), ("mark", 0))), False)
 
     def test_what_is_read_must_come_ahead(self):
         seen = ((A, C),)
