@@ -34,7 +34,7 @@ class Links:
         for place, (plan, variant, _) in enumerate(runs):
             for _, method, reads, sheet, _ in running(plan, variant):
                 self.made[(place, sheet)] = (method, tuple([(place, read) for read in reads]))
-        told = [((place, sheet), mark) for place, run in enumerate(runs) for sheet, mark in run[2]]
+        told = [((at, name), mark) for at, run in enumerate(runs) for name, mark in run[2]]
         self.marks = {spot: mark for spot, mark in told if spot not in self.made}
 
 
