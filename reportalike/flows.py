@@ -3,7 +3,7 @@
 from reportalike.books import played, reading_row
 from reportalike.forms import subsets, tupled
 from reportalike.rows import ahead_table
-from reportalike.steps import running
+from reportalike.steps import working
 
 
 class Flow:
@@ -12,7 +12,7 @@ class Flow:
     def __init__(self, run, waits):
         plan, variant, counts = tupled(run)
         self.counts = counts
-        self.steps = {step[0]: step for step in running(plan, variant)}
+        self.steps = {step[0]: step for step in working(plan, variant)}
         self.makers = {step[3]: name for name, step in self.steps.items()}
         table = ahead_table([step[0] for step in plan], tupled(waits))
         self.ahead = {name: {one: True for one in table[name] if one in self.steps} for name in self.steps}

@@ -1,10 +1,12 @@
 """The plainest forms: numbers, NAMES, sets, and arguments with lists in the place of tuples."""
 
+LETTERS = "abcdefghijklmnopqrstuvwxyz"
+
 
 def tupled(value):
     """The value with a tuple in the place of each list, at any depth."""
     if isinstance(value, (list, tuple)):
-        return tuple([tupled(part) for part in value])
+        return tuple([tupled(part) if isinstance(part, (list, tuple)) else part for part in value])
     return value
 
 
@@ -53,3 +55,31 @@ def subsets(row):
     for part in row:
         found = found + [ahead + (part,) for ahead in found]
     return sorted(found)
+
+
+def subsets_by_size(row):
+    """The same tuples, those with fewer parts first, of as many the lesser ones first."""
+    sized = sorted([(len(some), some) for some in subsets(row)])
+    return [some for _, some in sized]
+
+
+def is_part_of(some, row):
+    """Whether all of some stand in the row."""
+    return all([part in row for part in some])
+
+
+def new_names(many, taken):
+    """The first so many NAMES that are not among those taken, the shorter ones and then the lesser ones first."""
+    found, heads = [], [""]
+    while len(found) < many:
+        heads = [head + letter for head in heads for letter in LETTERS]
+        found.extend([name for name in heads if name not in taken])
+    return found[:many]
+
+
+def orders_of(row):
+    """The tuples of all parts of a row, each once, in all orders."""
+    found = [()]
+    for part in row:
+        found = [(*order[:at], part, *order[at:]) for order in found for at in range(len(order) + 1)]
+    return found

@@ -3,7 +3,7 @@
 from reportalike.errors import NoPaper
 from reportalike.few import fewest_blocks
 from reportalike.forms import as_set, pairs_among, tupled
-from reportalike.groups import Links, free_book, numbered
+from reportalike.groups import free_book, links_of, numbered
 from reportalike.runs import expect_spots, spots_in_pairs
 from reportalike.worlds import is_world, numbers_in
 
@@ -11,7 +11,7 @@ from reportalike.worlds import is_world, numbers_in
 def class_table(runs, seen, some):
     """The number of the CLASS of each SPOT; raises NoSpot for the first in seen, then in some, that is none."""
     expect_spots(runs, [*spots_in_pairs(seen), *some])
-    return numbered(Links(runs), seen)
+    return numbered(links_of(runs), seen)
 
 
 def classes_of(runs, seen):
@@ -48,7 +48,7 @@ def tells_all(runs, seen, others):
 
 def free_world(runs, seen):
     places, pairs = tupled((runs, seen))
-    return free_book(Links(places), class_table(places, pairs, [])).world()
+    return free_book(links_of(places), class_table(places, pairs, [])).world()
 
 
 def apart_paper(runs, seen, one, other):
@@ -75,7 +75,7 @@ def blocks_apart(runs, seen, one, other):
     """Of each CLASS a number, as few ones as keep one and other apart in a WORLD; None if both are alike."""
     places, pairs, first, second = tupled((runs, seen, one, other))
     table = class_table(places, pairs, [first, second])
-    book = free_book(Links(places), table)
+    book = free_book(links_of(places), table)
     return fewest_blocks(book.many, list(book.rows.items()), table[first], table[second])
 
 

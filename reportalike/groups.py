@@ -1,8 +1,7 @@
 """SPOTS that must hold the same: put together as far as SEEN pairs, MARKS and METHODS tell."""
 
 from reportalike.books import Free
-from reportalike.runs import spots
-from reportalike.steps import running
+from reportalike.steps import working
 
 
 class Groups:
@@ -26,16 +25,28 @@ class Groups:
 
 
 class Links:
-    """Where the SPOTS of RUNS come from: each has a MARK, or a METHOD made it of what it read."""
+    """Where SPOTS come from: each has a MARK, or something made it of what it read."""
 
-    def __init__(self, runs):
-        self.row = spots(runs)
-        self.made = {}
-        for place, (plan, variant, _) in enumerate(runs):
-            for _, method, reads, sheet, _ in running(plan, variant):
-                self.made[(place, sheet)] = (method, tuple([(place, read) for read in reads]))
-        told = [((at, name), mark) for at, run in enumerate(runs) for name, mark in run[2]]
-        self.marks = {spot: mark for spot, mark in told if spot not in self.made}
+    def __init__(self, row, made, marks):
+        self.row = row
+        self.made = made
+        self.marks = marks
+
+
+def links_of(runs):
+    """The Links of the SPOTS of RUNS: what made one is told by its METHOD."""
+    made, marks = {}, {}
+    for place, (plan, variant, counts) in enumerate(runs):
+        for _, method, reads, sheet, _ in working(plan, variant):
+            made[(place, sheet)] = (method, tuple([(place, read) for read in reads]))
+        told = [((place, sheet), mark) for sheet, mark in counts]
+        marks.update({spot: mark for spot, mark in told if spot not in made})
+    return Links(sorted([*made, *marks]), made, marks)
+
+
+def makers_at(runs):
+    """Of each SPOT that is made the STEP that makes it."""
+    return {(place, step[3]): step for place, run in enumerate(runs) for step in working(run[0], run[1])}
 
 
 def joinings_of(links, seen):

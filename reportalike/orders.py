@@ -5,7 +5,7 @@ from reportalike.books import Given
 from reportalike.flows import Flow, first_order, free_in, how_many_ways, order_by, sure_ends, without
 from reportalike.forms import are_names, as_set, is_ascending, is_tuple_of, subsets, tupled
 from reportalike.free import class_table
-from reportalike.groups import Links, free_book
+from reportalike.groups import free_book, links_of
 from reportalike.rows import ahead_table, only_fed
 from reportalike.runs import held_sheets
 from reportalike.worlds import agrees, held_at, is_world
@@ -114,7 +114,7 @@ def studied(runs, seen, place, waits):
     expect_place(runs, place)
     rows, pairs = tupled((runs, seen))
     table = class_table(rows, pairs, [])
-    return Flow(rows[place], waits), table, free_book(Links(rows), table)
+    return Flow(rows[place], waits), table, free_book(links_of(rows), table)
 
 
 def same_for_all(runs, seen, place, waits):

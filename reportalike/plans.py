@@ -4,7 +4,7 @@ from reportalike.books import Free, played, reading_row
 from reportalike.errors import NoOrder, NoPaper
 from reportalike.forms import are_names, as_set, is_ascending, is_name_set, is_tuple_of, pairs_among, tupled
 from reportalike.rows import ring_of, row_of
-from reportalike.steps import counts_needed, flags_in, made_at, running, variants_of
+from reportalike.steps import counts_needed, flags_in, made_at, working, variants_of
 
 
 def clash(one, other):
@@ -87,7 +87,7 @@ def is_unsound(plan, thing):
     word, names, variant = thing
     if not are_names(names) or not is_name_set(variant):
         return False
-    table = {step[0]: step for step in running(plan, variant)}
+    table = {step[0]: step for step in working(plan, variant)}
     if not all([name in table for name in names]):
         return False
     steps = [table[name] for name in names]
@@ -145,7 +145,7 @@ def wanted(plan):
 
 
 def needed_at(plan, variant, sheets):
-    makers = makers_of(running(plan, variant))
+    makers = makers_of(working(plan, variant))
     names, asked, waiting = [], {}, list(sheets)
     while waiting:
         sheet = waiting.pop()
@@ -174,7 +174,7 @@ def told_alike(plan, sheet, one, other):
 def sheet_told(plan, sheet, variant, book):
     """The number of what the SHEET holds in the end, each SHEET that is not made having a MARK of its own."""
     ahead = [(name, name) for name in (*counts_needed(plan, variant), sheet)]
-    return played(reading_row(running(plan, variant)), ahead, book)[sheet]
+    return played(reading_row(working(plan, variant)), ahead, book)[sheet]
 
 
 def felt_flags(plan, sheet):

@@ -29,12 +29,16 @@ def is_plan(thing):
 
 
 def holds(condition, variant):
-    flags = {flag: True for flag in variant}
-    return all([(flag in flags) == (on == 1) for flag, on in condition])
+    return all([(flag in variant) == (on == 1) for flag, on in condition])
 
 
 def running(plan, variant):
-    return tuple([step for step in tupled(plan) if holds(step[4], variant)])
+    return tuple(working(tupled(plan), variant))
+
+
+def working(steps, variant):
+    """Those of the STEPS that run at this VARIANT, as they are handed in."""
+    return [step for step in steps if not step[4] or holds(step[4], variant)]
 
 
 def step_of(plan, name):
@@ -61,18 +65,19 @@ def variants_of(plan):
 
 
 def made_at(plan, variant):
-    return as_set([step[3] for step in running(plan, variant)])
+    return as_set([step[3] for step in working(plan, variant)])
 
 
 def counts_needed(plan, variant):
-    made = {sheet: True for sheet in made_at(plan, variant)}
-    return as_set([sheet for step in running(plan, variant) for sheet in step[2] if sheet not in made])
+    steps = working(plan, variant)
+    made = {step[3]: True for step in steps}
+    return as_set([sheet for step in steps for sheet in step[2] if sheet not in made])
 
 
 def maker(plan, variant, sheet):
-    for step in running(plan, variant):
+    for step in working(plan, variant):
         if step[3] == sheet:
-            return step
+            return tupled(step)
     return None
 
 

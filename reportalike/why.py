@@ -1,8 +1,8 @@
 """Why SPOTS are alike: JOININGS that show it, and the SEEN pairs that it hangs on."""
 
 from reportalike.errors import NoNumber, NoPaper
-from reportalike.forms import is_number, is_tuple_of, pairs_among, subsets, tupled
-from reportalike.groups import Groups, Links, joinings_of, numbered
+from reportalike.forms import is_number, is_part_of, is_tuple_of, pairs_among, subsets_by_size, tupled
+from reportalike.groups import Groups, joinings_of, links_of, numbered
 from reportalike.runs import expect_spots, is_spot_form, spots_in_pairs
 
 
@@ -13,7 +13,7 @@ class Case:
         self.seen = tupled(seen)
         self.some = tupled(some)
         expect_spots(runs, [*spots_in_pairs(self.seen), *self.some])
-        self.links = Links(tupled(runs))
+        self.links = links_of(tupled(runs))
 
     def table(self, places):
         """The CLASSES by the SEEN pairs with these places alone."""
@@ -117,25 +117,18 @@ def more_by(runs, seen, one, other):
     return alike_by_one_alone(more, case.table(case.places()))
 
 
-def lots_by_size(case):
-    """All sets of places, those with fewer ones first, of as many the lesser ones first."""
-    lots = [(len(lot), lot) for lot in subsets(case.places())]
-    return [lot for _, lot in sorted(lots)]
-
-
 def least_lots(runs, seen, one, other):
     case = Case(runs, seen, (one, other))
     found = []
-    for lot in lots_by_size(case):
-        greater = any([all([place in lot for place in less]) for less in found])
-        if not greater and case.alike_by(lot):
+    for lot in subsets_by_size(case.places()):
+        if not any([is_part_of(less, lot) for less in found]) and case.alike_by(lot):
             found.append(lot)
     return sorted(found)
 
 
 def fewest_lot(runs, seen):
     case = Case(runs, seen, ())
-    for lot in lots_by_size(case):
+    for lot in subsets_by_size(case.places()):
         table = case.table(lot)
         if all([table[one] == table[other] for one, other in case.seen]):
             return lot

@@ -4,7 +4,7 @@ from reportalike.books import Given, played, reading_row
 from reportalike.errors import NoNumber, NoSpot
 from reportalike.forms import as_set, is_ascending, is_name, is_number, is_tuple_of, tupled
 from reportalike.runs import expect_spots, spots_in_pairs
-from reportalike.steps import running
+from reportalike.steps import working
 
 
 def is_world(thing):
@@ -47,7 +47,7 @@ def held_by(world, mark):
 
 def laid_out(runs):
     """Of each RUN the pair of its STEPS that run, in a row in which they can be taken, and its COUNTS."""
-    return [(reading_row(running(plan, variant)), counts) for plan, variant, counts in tupled(runs)]
+    return [(reading_row(working(plan, variant)), counts) for plan, variant, counts in tupled(runs)]
 
 
 def numbers_at(book, laid):
@@ -127,7 +127,7 @@ def many_tuples(many, length):
 
 def rows_in(runs, many):
     """The set of the pairs (method, ins) of the rows of their plain WORLDS."""
-    kinds = as_set([(step[1], len(step[2])) for plan, variant, _ in runs for step in running(plan, variant)])
+    kinds = as_set([(step[1], len(step[2])) for plan, variant, _ in runs for step in working(plan, variant)])
     return as_set([(method, ins) for method, length in kinds for ins in many_tuples(many, length)])
 
 

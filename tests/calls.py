@@ -106,6 +106,88 @@ CALLS = {
     ],
 }
 
+# Labels, and what is kept.
+ADD = (("p", "add", ("a",), "x", ()), ("q", "add", ("b",), "y", ()), ("r", "sub", ("b",), "z", (("u", 1),)))
+LABELLED = ((ADD, (), (("a", "m"), ("b", "n"))), (ADD, ("u",), (("a", "m"), ("b", "m"))))
+FULL, LEAN = (("method", ""), ("read", "0")), (("method", ""),)
+HIT = ((("m", 1), ("n", 2)), (("add", (1,), 3), ("add", (2,), 4)), 0)
+KIND_PAPER = (((ADD[:2], (), (("a", "m"), ("b", "n"))),), HIT, (0, "x"), (0, "y"))
+ROAD = (("a", "f", ("x",), "p", ()), ("b", "g", ("y",), "q", ()), ("c", "h", ("p", "q"), "r", ()))
+KEPT = (ROAD, (), (("x", "m"), ("y", "n")))
+LATE = (ROAD, (), (("x", "k"), ("y", "n")))
+ALIKE = (((0, "p"), (0, "q")),)
+
+# Two RUNS, and JOINS.
+TWINS = (("c", "t", ("x",), "f", ()), ("d", "t", ("y",), "g", ()), ("e", "u", ("f",), "h", ()), ("k", "u", ("g",), "m", ()))
+TURNS = ((TWINS, (), (("x", "p"), ("y", "q"))), (TWINS, (), (("x", "r"), ("y", "q"))))
+GIVEN = ((("p", 1), ("q", 2), ("r", 3)), (("t", (1,), 4), ("t", (2,), 5), ("t", (3,), 4), ("u", (4,), 6), ("u", (5,), 7)), 0)
+SAME = (((0, "g"), (1, "y")),)
+MIX = (("f", "mix", ("x", "y"), "m", ()), ("g", "sum", ("m", "z"), "t", ()))
+TOLD = (("x", "a"), ("y", "b"), ("z", "c"))
+BASE, LEFT, RIGHT = (MIX, (), TOLD), (MIX, (), (("x", "d"), *TOLD[1:])), (MIX, (), (("x", "e"), ("y", "e"), TOLD[2]))
+SIDES = {"base": BASE, "left": LEFT, "right": RIGHT}
+FRESH = (MIX, (), (("x", "d"), ("y", "e"), ("z", "c")))
+NONE = ((("a", 1), ("b", 2), ("c", 3), ("d", 4), ("e", 5)), (("mix", (4, 5), 9),), 0)
+
+CALLS.update({
+    "labels": [
+        ("is_kind", {"thing": (("counts", "x"), ("flag", "u"))}), ("label_of", {"runs": LABELLED, "spot": (1, "x"), "kind": FULL}),
+        ("can_share", {"runs": LABELLED, "kind": FULL, "one": (0, "x"), "other": (1, "y")}),
+        ("tied", {"runs": LABELLED, "kind": FULL, "one": (0, "x"), "other": (1, "y")}),
+        ("is_right_hit", {"runs": LABELLED, "seen": (((0, "a"), (0, "b")),), "kind": LEAN, "one": (0, "x"), "other": (0, "y")}),
+        ("wrong_hits", {"runs": LABELLED, "seen": (((0, "a"), (0, "b")),), "kind": (("sheet", ""),)}),
+        ("hit_paper", {"runs": LABELLED, "seen": (((0, "b"), (1, "y")),), "kind": LEAN, "one": (0, "x"), "other": (0, "y")}),
+        ("is_hit_paper", {"runs": LABELLED, "seen": (), "kind": LEAN, "one": (0, "x"), "other": (0, "y"), "thing": HIT}),
+        ("with_book", {"runs": LABELLED, "kind": FULL, "world": HIT}), ("is_right_kind", {"plan": ADD, "kind": FULL}),
+        ("kind_paper", {"plan": ADD, "kind": LEAN}), ("is_kind_paper", {"plan": ADD[:2], "kind": LEAN, "thing": KIND_PAPER}),
+        ("least_kinds", {"plan": ADD, "parts": (("method", ""), ("name", ""), ("read", "0"))}), ("is_right_always", {"kind": FULL}),
+        ("sure_hits", {"runs": LABELLED, "seen": (((0, "a"), (0, "b")),), "kind": FULL}),
+        ("misses", {"runs": LABELLED, "seen": (((0, "x"), (0, "y")),), "kind": FULL}),
+        ("seen_by_hits", {"runs": LABELLED, "seen": (((0, "b"), (1, "y")),), "kind": FULL, "pairs": (((0, "x"), (1, "y")), ((1, "x"), (0, "y")))}),
+        ("label_of", {"runs": LABELLED, "spot": (0, "a"), "kind": FULL}), ("kind_paper", {"plan": ADD, "kind": FULL}),
+        ("tied", {"runs": LABELLED, "kind": FULL, "one": (0, "x"), "other": (1, "z")}),
+    ],
+    "kept": [
+        ("made_again", {"run": KEPT, "seen": ALIKE, "goals": ("r",), "kept": ("p",), "turn": ("x",)}),
+        ("most_made", {"run": KEPT, "seen": (), "goals": ("r",), "kept": ("p", "q"), "may": ("x", "y"), "many": 1}),
+        ("turn_against", {"run": KEPT, "seen": (), "goals": ("r",), "kept": ("p",), "may": ("x", "y"), "many": 1, "most": 2}),
+        ("least_promise", {"run": KEPT, "goals": ("r",), "may": ("x", "y"), "many": 1}),
+        ("some_kept", {"run": KEPT, "seen": (), "goals": ("r",), "may": ("x", "y"), "many": 1, "most": 2}),
+        ("forced_kept", {"run": KEPT, "seen": ALIKE, "goals": ("r",), "may": ("x",), "many": 1, "most": 2}),
+        ("needless_kept", {"run": KEPT, "seen": (), "goals": ("r",), "kept": ("p", "r"), "may": ("x",)}),
+        ("least_made", {"run": KEPT, "seen": ALIKE, "goals": ("r",), "kept": ()}),
+        ("turn_asking", {"runs": (KEPT, LATE), "seen": (((0, "q"), (1, "q")),), "place": 0, "goals": ("r",), "spot": (1, "r"),
+                         "back": (("x", ("k", "z")), ("y", ())), "many": 1}),
+    ],
+    "changes": [
+        ("others", {"runs": TURNS, "seen": SAME}), ("left_over", {"runs": (KEPT, TURNS[0])}),
+        ("taken_from", {"runs": TURNS, "seen": SAME, "sheet": "y"}),
+        ("needed_sheets", {"runs": TURNS, "seen": (), "targets": ("h", "m")}),
+        ("fewest_calls", {"runs": TURNS, "seen": (), "targets": ("h", "m")}),
+        ("steps_called", {"runs": TURNS, "seen": (), "targets": ("h",), "world": GIVEN, "way": "own", "order": ("k", "c", "d", "e")}),
+        ("calls_in", {"runs": TURNS, "seen": (), "targets": ("h",), "world": GIVEN, "way": "none"}),
+        ("may_be_spared", {"runs": TURNS, "seen": SAME, "name": "e"}), ("spared_paper", {"runs": TURNS, "seen": (), "name": "e"}),
+        ("is_spared_paper", {"runs": TURNS, "seen": (), "name": "e", "thing": GIVEN}),
+        ("unfelt", {"one": (PLAN, ()), "other": (PLAN, ("fast",)), "sheet": "page"}), ("minded_flags", {"plan": PLAN, "sheet": "page"}),
+        ("calls_in_row", {"runs": TURNS, "order": (1, 0), "kept": "last"}), ("least_row", {"runs": (*TURNS, TURNS[0])}),
+        ("others", {"runs": TURNS, "seen": (((0, "f"), (1, "z")),)}), ("needed_sheets", {"runs": TURNS, "seen": (), "targets": ("z",)}),
+        ("may_be_spared", {"runs": TURNS, "seen": (), "name": "z"}), ("spared_paper", {"runs": TURNS, "seen": (), "name": "c"}),
+        ("steps_called", {"runs": TURNS, "seen": (), "targets": ("h",), "world": GIVEN, "way": "own", "order": ("k", "c")}),
+    ],
+    "joins": [
+        ("clashes", SIDES), ("joined", {**SIDES, "takes": (("count", "x"),)}),
+        ("at_hand", {"runs": (BASE, LEFT), "seen": (), "run": FRESH, "sheet": "x"}),
+        ("fresh_sheets", {"runs": (BASE, LEFT), "seen": (), "run": FRESH}),
+        ("none_paper", {"runs": (BASE, LEFT, RIGHT), "seen": (), "run": FRESH, "sheet": "t"}),
+        ("is_none_paper", {"runs": (BASE, LEFT, RIGHT), "seen": (), "run": FRESH, "sheet": "m", "thing": NONE}),
+        ("steps_wanted", {"runs": (BASE, LEFT), "seen": (), "run": FRESH, "sheets": ("t", "x")}),
+        ("idle_clashes", {**SIDES, "seen": (((0, "x"), (1, "x")),), "sheet": "t"}),
+        ("tree_runs", {"base": BASE, "sides": (LEFT, RIGHT, FRESH), "tree": (2, (0, 1))}),
+        ("at_hand", {"runs": (BASE, LEFT), "seen": (), "run": FRESH, "sheet": "none"}),
+        ("joined", {**SIDES, "left": (MIX, (), ()), "takes": ()}), ("none_paper", {"runs": (BASE,), "seen": (), "run": BASE, "sheet": "t"}),
+    ],
+})
+
 INTERFACE = {
     "steps": "is_condition is_step is_plan holds running step_of flags_in methods_in sheets_in variants_of made_at counts_needed "
              "maker with_step without_step renamed_sheets",
@@ -119,7 +201,14 @@ INTERFACE = {
     "why": "why is_why needless in_each only_by more_by least_lots fewest_lot",
     "orders": "is_waits ahead_of read_kind patterns is_order how_many_orders nth_order number_of_order left_in same_for_all "
               "right_for_all again_for_all other_paper wrong_paper is_other_paper is_wrong_paper loosest fewest_rounds",
+    "labels": "is_kind label_of can_share tied is_right_hit wrong_hits hit_paper is_hit_paper with_book is_right_kind kind_paper "
+              "is_kind_paper least_kinds is_right_always sure_hits misses seen_by_hits",
+    "kept": "made_again most_made turn_against least_promise some_kept forced_kept needless_kept least_made turn_asking",
+    "changes": "others left_over taken_from needed_sheets fewest_calls steps_called calls_in may_be_spared spared_paper "
+               "is_spared_paper unfelt minded_flags calls_in_row least_row",
+    "joins": "clashes joined at_hand fresh_sheets none_paper is_none_paper steps_wanted idle_clashes tree_runs",
 }
 
 # What these return is a list; all others return no list at any depth.
-LISTS = ("variants_of", "alike_pairs", "only_by", "more_by", "least_lots", "patterns")
+LISTS = ("variants_of", "alike_pairs", "only_by", "more_by", "least_lots", "patterns", "wrong_hits", "least_kinds",
+         "sure_hits", "misses")

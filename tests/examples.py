@@ -3,7 +3,7 @@
 import importlib
 import os
 
-MODULES = ("errors", "steps", "plans", "runs", "worlds", "free", "why", "orders")
+MODULES = ("errors", "steps", "plans", "runs", "worlds", "free", "why", "orders", "labels", "kept", "changes", "joins")
 
 
 def all_names():

@@ -1,5 +1,6 @@
 """The test's own look at what the document says: slow and plain, and nothing of the package is used."""
 
+from functools import lru_cache
 from itertools import chain, combinations, permutations, product
 
 
@@ -174,6 +175,11 @@ class Terms:
 
 def class_of(runs, seen):
     """Of each SPOT its class."""
+    return dict(told_classes(tuple(runs), tuple(seen)))
+
+
+@lru_cache(maxsize=None)
+def told_classes(runs, seen):
     terms = Terms()
     nodes = {spot: terms.of(runs[spot[0]], spot[1]) for spot in spots(runs)}
     lead = terms.classes([(nodes[one], nodes[other]) for one, other in seen])
@@ -234,3 +240,34 @@ def ends_again(terms, run, waits):
                 if more not in states:
                     states.append(more)
     return [played(terms, run, row, state) for state in states for row in rows]
+
+
+def made_spots(runs):
+    """The SPOTS that are made, ascending."""
+    return [spot for spot in spots(runs) if maker_of(runs[spot[0]], spot[1])]
+
+
+def pairs_of(row):
+    """All pairs of a row, the earlier one first."""
+    return list(combinations(row, 2))
+
+
+def numbers(world, runs):
+    """What all SPOTS hold."""
+    return {spot: at(world, runs, spot) for spot in spots(runs)}
+
+
+def agreeing_worlds(runs, seen, many):
+    """What all SPOTS hold in each plain WORLD that agrees."""
+    tables = [numbers(world, runs) for world in plain_worlds(runs, many)]
+    return [table for table in tables if all(table[one] == table[other] for one, other in seen)]
+
+
+def rows_of_steps(run):
+    """All rows in which the STEPS that run can be taken, each behind those that make what it reads."""
+    steps = working(run[0], run[1])
+    found = []
+    for row in permutations(steps):
+        if not any(feeds(later, step) for at, step in enumerate(row) for later in row[at + 1:]):
+            found.append(row)
+    return found

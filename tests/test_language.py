@@ -169,3 +169,22 @@ class Language(unittest.TestCase):
             methods = {one.name for one in node.body if isinstance(one, ast.FunctionDef)}
             stored = {one.attr for one in ast.walk(node) if isinstance(one, ast.Attribute) and isinstance(one.ctx, ast.Store)}
             self.assertFalse(methods & stored, name)
+
+    def test_names_in_a_comprehension_within_another_one(self):
+        comprehensions = (ast.ListComp, ast.SetComp, ast.DictComp)
+        for name, function in self.each(ast.FunctionDef):
+            for outer in ast.walk(function):
+                for inner in ast.walk(outer) if isinstance(outer, comprehensions) else ():
+                    if inner is outer or not isinstance(inner, comprehensions):
+                        continue
+                    own = self.stored(inner)
+                    arguments = {one.arg for one in ast.walk(function) if isinstance(one, ast.arg)}
+                    others = self.stored(function, but=[one for one in ast.walk(function) if isinstance(one, comprehensions)])
+                    heads = {one.id for part in outer.generators for one in ast.walk(part.target) if isinstance(one, ast.Name)}
+                    self.assertFalse(own & (arguments | others | heads), (name, inner.lineno))
+
+    def stored(self, tree, but=()):
+        """The names that are stored in a tree, but not within these parts of it."""
+        gone = {id(node) for part in but for node in ast.walk(part)}
+        return {node.id for node in ast.walk(tree)
+                if isinstance(node, ast.Name) and isinstance(node.ctx, ast.Store) and id(node) not in gone}
