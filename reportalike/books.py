@@ -60,7 +60,12 @@ def reading_row(steps):
 
 def played(steps, counts, book):
     """What each SHEET holds in the end, if the STEPS are taken in this row behind these COUNTS."""
-    held = {sheet: book.held(mark) for sheet, mark in counts}
+    return taken(steps, {sheet: book.held(mark) for sheet, mark in counts}, book)
+
+
+def taken(steps, start, book):
+    """The same behind what SHEETS hold at the start."""
+    held = dict(start)
     for step in steps:
         held[step[3]] = book.told(step[1], tuple([held[read] for read in step[2]]))
     return held

@@ -83,3 +83,11 @@ def orders_of(row):
     for part in row:
         found = [(*order[:at], part, *order[at:]) for order in found for at in range(len(order) + 1)]
     return found
+
+
+def choices(lots):
+    """All tuples of one part of each lot, in the order of the lots."""
+    found = [()]
+    for lot in lots:
+        found = [(*ahead, part) for ahead in found for part in lot]
+    return found

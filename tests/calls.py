@@ -188,6 +188,66 @@ CALLS.update({
     ],
 })
 
+# ASKERS.
+ASKPLAN = (("list", ("src",), ("old",)), ("page", ("conf",), ("list", "old")))
+DAYS = ((("conf", "m"), ("old", "o"), ("src", "s")), (("conf", "m"), ("old", "p"), ("src", "s")), (("conf", "n"), ("old", "o"), ("src", "t")))
+BOOK = (ASKPLAN, DAYS, ((0, "list", ()), (0, "page", ("list",))), (((0, "conf"), (0, "list")),))
+RING = (("a", ("x",), ("b",)), ("b", ("y",), ("a",)))
+LATER = (RING, ((("x", "m"), ("y", "n")), (("x", "k"), ("y", "n"))), ((0, "a", ()), (0, "b", ("a",))), ())
+ASKWORLD = ((("k", 1), ("m", 2), ("n", 3)), (("a", (("x", 2),), 7), ("b", (("y", 3),), "a"), ("b", (("y", 3), ("a", 7)), 8)), 0)
+SEEN_LATER = (*LATER[:3], (((0, "a"), (0, "x")), ((0, "b"), (0, "y"))))
+SECOND = (("a", (("x", 1),), "b"), ("a", (("x", 2),), 2), ("b", (("y", 3),), "a"), ("b", (("y", 3), ("a", 2)), 3))
+FAILING = (ASKWORLD[0], SECOND, 0)
+HERE, THERE = {"book": BOOK, "day": 1, "sheet": "page"}, {"book": LATER, "day": 1, "sheet": "a"}
+
+# Branches and letters.
+BRANCHED = (("one", "f", ("x",), "a", ()), ("two", "g", ("a", "y"), "b", ()))
+MONTHS = ((BRANCHED, (), (("x", "m"), ("y", "k"))), (BRANCHED, (), (("x", "n"), ("y", "k"))))
+STORY = (("come", "west", (0, "x")), ("do", "west", "one"), ("come", "west", (1, "x")), ("come", "west", (1, "y")),
+         ("do", "west", "two"), ("lend", "east", "west", "b"))
+TOLD_SO = {"runs": MONTHS, "seen": (((0, "x"), (0, "y")),), "story": STORY}
+ODD = ((("k", 1), ("m", 1), ("n", 3)), (("f", (1,), 4), ("f", (3,), 5), ("g", (4, 1), 6), ("g", (5, 1), 7)), 0)
+LETTERED = (("one", "f", ("x", "y"), "t", ()),)
+SENT_RUNS = tuple((LETTERED, (), (("x", x), ("y", y))) for x, y in (("n", "k"), ("m", "l"), ("m", "k")))
+SENT_SEEN = (((0, "t"), (2, "t")), ((1, "t"), (2, "t")))
+HAVE, SENT = ((2, "x"), (2, "y")), ((0, "x"), (2, "x"), (1, "y"))
+POST = {"runs": SENT_RUNS, "seen": SENT_SEEN, "have": HAVE, "letters": SENT}
+
+CALLS.update({
+    "asked": [
+        ("is_askplan", {"thing": ASKPLAN}), ("is_days", {"askplan": ASKPLAN, "thing": DAYS}), ("is_book", {"thing": BOOK}),
+        ("book_agrees", {"book": BOOK}), ("way_of", HERE), ("can_read", HERE), ("can_fail", THERE), ("failing", {"book": LATER, "day": 1}),
+        ("asked_classes", {"book": BOOK}), ("is_alike", {"book": BOOK, "one": (0, "page"), "other": (1, "page")}), ("note_for", HERE),
+        ("failing", {"book": LATER, "day": 2}), ("is_alike", {"book": LATER, "one": (0, "a"), "other": (1, "a")}),
+        ("is_alike", {"book": LATER, "one": (0, "a"), "other": (1, "z")}), ("way_of", {"book": LATER, "day": 5, "sheet": "a"}),
+    ],
+    "deeds": [
+        ("is_askworld", {"thing": ((("k", 1), ("m", 2)), (), 0)}),
+        ("day_played", {"askplan": RING, "counts": LATER[1][0], "world": ASKWORLD}),
+        ("read_in", {"askplan": RING, "counts": LATER[1][0], "world": ASKWORLD, "sheet": "b"}),
+        ("agrees_with", {"book": LATER, "world": ASKWORLD}), ("free_askworld", {"book": BOOK}), ("failing_world", THERE),
+        ("is_failing_world", {**THERE, "book": SEEN_LATER, "thing": FAILING}), ("must_look", HERE), ("openings", {"book": LATER, "day": 0, "sheet": "a"}),
+        ("sure_makes", HERE), ("can_make", THERE), ("must_look", {"book": LATER, "day": 2, "sheet": "a"}),
+    ],
+    "branches": [
+        ("is_story", {"runs": MONTHS, "thing": STORY}), ("copies", {"runs": MONTHS, "story": STORY, "branch": "west"}),
+        ("held_there", {"world": ODD, "runs": MONTHS, "story": STORY, "branch": "west"}),
+        ("same_copies", {**TOLD_SO, "one": ("west", "b"), "other": ("east", "b")}),
+        ("moments", {**TOLD_SO, "branch": "west", "some": ("b",)}), ("odd_world", {**TOLD_SO, "branch": "west", "some": ("b", "x")}),
+        ("is_odd_world", {**TOLD_SO, "branch": "west", "some": ("b", "x"), "thing": ODD}),
+        ("unsettled", {**TOLD_SO, "branch": "west", "row": ("one", "two")}), ("doing_row", {**TOLD_SO, "branch": "west", "sheet": "b"}),
+        ("moments", {**TOLD_SO, "branch": "east", "some": ("b", "x")}), ("unsettled", {**TOLD_SO, "branch": "west", "row": ("six",)}),
+    ],
+    "letters": [
+        ("is_mix", {"runs": SENT_RUNS, "thing": HAVE}),
+        ("right_by", {"runs": SENT_RUNS, "seen": SENT_SEEN, "mix": ((0, "x"), (1, "y")), "sheet": "t"}),
+        ("may_stand", {"runs": SENT_RUNS, "have": HAVE, "letters": SENT}), ("bad_mix", {**POST, "sheet": "t"}),
+        ("turned_away", {**POST, "sheet": "t"}), ("last_ones", {"letters": SENT, "kept": ((0, 1),)}),
+        ("bad_order", {**POST, "kept": (), "sheet": "t"}), ("is_bad_order", {**POST, "kept": (), "sheet": "t", "thing": (1, 2, 0)}),
+        ("fewest_kept", {**POST, "sheet": "t"}), ("bad_mix", {**POST, "sheet": "none"}),
+    ],
+})
+
 INTERFACE = {
     "steps": "is_condition is_step is_plan holds running step_of flags_in methods_in sheets_in variants_of made_at counts_needed "
              "maker with_step without_step renamed_sheets",
@@ -207,8 +267,13 @@ INTERFACE = {
     "changes": "others left_over taken_from needed_sheets fewest_calls steps_called calls_in may_be_spared spared_paper "
                "is_spared_paper unfelt minded_flags calls_in_row least_row",
     "joins": "clashes joined at_hand fresh_sheets none_paper is_none_paper steps_wanted idle_clashes tree_runs",
+    "asked": "is_askplan is_days is_book book_agrees way_of can_read can_fail failing asked_classes is_alike note_for",
+    "deeds": "is_askworld day_played read_in agrees_with free_askworld failing_world is_failing_world must_look openings sure_makes "
+             "can_make",
+    "branches": "is_story copies held_there same_copies moments odd_world is_odd_world unsettled doing_row",
+    "letters": "is_mix right_by may_stand bad_mix turned_away last_ones bad_order is_bad_order fewest_kept",
 }
 
 # What these return is a list; all others return no list at any depth.
 LISTS = ("variants_of", "alike_pairs", "only_by", "more_by", "least_lots", "patterns", "wrong_hits", "least_kinds",
-         "sure_hits", "misses")
+         "sure_hits", "misses", "openings")

@@ -3,7 +3,8 @@
 import importlib
 import os
 
-MODULES = ("errors", "steps", "plans", "runs", "worlds", "free", "why", "orders", "labels", "kept", "changes", "joins")
+MODULES = ("errors", "steps", "plans", "runs", "worlds", "free", "why", "orders", "labels", "kept", "changes", "joins", "asked",
+           "deeds", "branches", "letters")
 
 
 def all_names():
