@@ -74,7 +74,7 @@ class Lore:
         made = {}
         for (day, sheet), reads in self.noted.items():
             made[(day, sheet)] = ((sheet, reads), tuple([(day, read) for read in reads]))
-        return Links(sorted([*marks, *made]), made, marks)
+        return Links(made, marks)
 
     def feeders(self):
         return {(day, sheet): [(day, read) for read in reads] for (day, sheet), reads in self.noted.items()}

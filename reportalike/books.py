@@ -3,8 +3,6 @@
 A book of either kind tells what a MARK holds and what a METHOD tells of some numbers.
 """
 
-from reportalike.rows import row_of
-
 
 class Free:
     """A WORLD that grows as it is asked: what does not have to be the same gets unlike numbers."""
@@ -38,10 +36,9 @@ class Given:
     """A WORLD, to be asked often."""
 
     def __init__(self, world):
-        contents, tables, rest = world
+        contents, tables, self.rest = world
         self.marks = {mark: number for mark, number in contents}
-        self.rows = {(method, ins): out for method, ins, out in tables}
-        self.rest = rest
+        self.rows = {(method, tuple(ins)): out for method, ins, out in tables}
 
     def held(self, mark):
         return self.marks.get(mark, self.rest)
@@ -52,10 +49,13 @@ class Given:
 
 def reading_row(steps):
     """The STEPS in a row, each behind those that make what it reads, the least that can come first each time."""
-    table = {step[0]: step for step in steps}
-    makers = {step[3]: step[0] for step in steps}
-    feeders = {step[0]: [makers[read] for read in step[2] if read in makers] for step in steps}
-    return tuple([table[name] for name in row_of(feeders)])
+    left, made, row = list(steps), {step[3]: True for step in steps}, []
+    while left:
+        at = [place for place, step in enumerate(left) if not any([read in made for read in step[2]])][0]
+        row.append(left[at])
+        del made[left[at][3]]
+        del left[at]
+    return row
 
 
 def played(steps, counts, book):

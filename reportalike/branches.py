@@ -3,7 +3,7 @@
 from reportalike.books import Given
 from reportalike.errors import NoSheet, NoStep
 from reportalike.forms import are_names, as_set, is_name, is_tuple_of, tupled
-from reportalike.groups import free_book, links_of, numbered
+from reportalike.groups import classes_at, free_book
 from reportalike.plans import needed_at
 from reportalike.runs import is_spot_form, spot_table
 from reportalike.steps import working
@@ -83,11 +83,10 @@ class Tale:
     """A STORY beside its RUNS: of which CLASSES the SPOTS and the copies are."""
 
     def __init__(self, runs, seen, story):
-        self.runs, pairs, deeds = tupled((runs, seen, story))
-        links = links_of(self.runs)
-        self.table = numbered(links, pairs)
+        self.runs = runs
+        links, self.table = classes_at(runs, tupled(seen), [])
         self.book = free_book(links, self.table)
-        self.held = played_story(self.runs, deeds, self.table, self.book)
+        self.held = played_story(runs, tupled(story), self.table, self.book)
 
     def expect(self, some):
         """Raises NoSheet for the first pair (branch, sheet) of which there is no copy."""
@@ -115,7 +114,7 @@ def tale_with(runs, seen, story, branch, some):
 
 
 def held_there(world, runs, story, branch):
-    held = played_story(runs, tupled(story), numbers_in(world, runs), Given(tupled(world)))
+    held = played_story(runs, tupled(story), numbers_in(world, runs), Given(world))
     return tuple(sorted(copies_at(held, branch).items()))
 
 
@@ -144,7 +143,7 @@ def is_odd_world(runs, seen, story, branch, some, thing):
 
 
 def unsettled(runs, seen, story, branch, row):
-    tale, steps = Tale(runs, seen, story), steps_now(tupled(runs))
+    tale, steps = Tale(runs, seen, story), steps_now(runs)
     for name in row:
         if name not in steps:
             raise NoStep(name)

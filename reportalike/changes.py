@@ -13,16 +13,16 @@ class Change:
     """Two RUNS, the first one made, and what was seen of both; raises NoSpot for the first in seen that is none."""
 
     def __init__(self, runs, seen):
-        rows, self.seen = tupled((runs, seen))
-        expect_spots(rows, spots_in_pairs(self.seen))
-        self.links = links_of(rows)
-        self.steps = makers_at(rows)
+        self.seen = tupled(seen)
+        self.links = links_of(runs)
+        expect_spots(self.links.table, spots_in_pairs(self.seen))
+        self.steps = makers_at(runs)
         self.there = [spot for spot in self.links.row if spot[0] == 0 or spot not in self.steps]
 
     def expect(self, sheets):
         """Raises NoSheet for the first one that the second RUN does not have."""
         for sheet in sheets:
-            if (1, sheet) not in self.links.made and (1, sheet) not in self.links.marks:
+            if (1, sheet) not in self.links.table:
                 raise NoSheet(sheet)
 
     def table(self, pairs):
@@ -83,8 +83,8 @@ def others(runs, seen):
 
 def left_over(runs):
     change = Change(runs, ())
-    told = [*change.links.made, *change.links.marks]
-    return as_set([sheet for place, sheet in change.links.made if place == 0 and (1, sheet) not in told])
+    made = [sheet for place, sheet in change.links.made if place == 0]
+    return as_set([sheet for sheet in made if (1, sheet) not in change.links.table])
 
 
 def taken_from(runs, seen, sheet):

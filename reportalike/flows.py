@@ -1,7 +1,7 @@
 """The steps of a RUN under its WAITS: who is ahead of whom, what is read when, and the ORDERS there are."""
 
 from reportalike.books import played, reading_row
-from reportalike.forms import subsets, tupled
+from reportalike.forms import subsets
 from reportalike.rows import ahead_table
 from reportalike.steps import working
 
@@ -10,11 +10,10 @@ class Flow:
     """A RUN with its WAITS: its steps by their names, who makes what, and which steps are ahead of each one."""
 
     def __init__(self, run, waits):
-        plan, variant, counts = tupled(run)
-        self.counts = counts
+        plan, variant, self.counts = run
         self.steps = {step[0]: step for step in working(plan, variant)}
         self.makers = {step[3]: name for name, step in self.steps.items()}
-        table = ahead_table([step[0] for step in plan], tupled(waits))
+        table = ahead_table([step[0] for step in plan], waits)
         self.ahead = {name: {one: True for one in table[name] if one in self.steps} for name in self.steps}
 
     def kind(self, name, sheet):

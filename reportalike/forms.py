@@ -15,9 +15,7 @@ def is_number(thing):
 
 
 def is_name(thing):
-    if not isinstance(thing, str) or not 1 <= len(thing) <= 8:
-        return False
-    return all(["a" <= sign <= "z" for sign in thing])
+    return isinstance(thing, str) and len(thing) <= 8 and thing.isascii() and thing.isalpha() and thing.islower()
 
 
 def is_tuple_of(thing, many):

@@ -1,6 +1,7 @@
 """SPOTS that must hold the same: put together as far as SEEN pairs, MARKS and METHODS tell."""
 
 from reportalike.books import Free
+from reportalike.runs import expect_spots, spots_in_pairs
 from reportalike.steps import working
 
 
@@ -9,28 +10,28 @@ class Groups:
 
     def __init__(self, row):
         self.leads = {spot: spot for spot in row}
-
-    def lead(self, spot):
-        at = spot
-        while self.leads[at] != at:
-            at = self.leads[at]
-        self.leads[spot] = at
-        return at
+        self.lots = {spot: [spot] for spot in row}
 
     def put(self, one, other):
         """Puts the lots of both together; returns whether they were unlike ones."""
-        first, second = self.lead(one), self.lead(other)
-        self.leads[second] = first
-        return first != second
+        first, second = self.leads[one], self.leads[other]
+        if first == second:
+            return False
+        lot = self.lots.pop(second)
+        self.lots[first].extend(lot)
+        for spot in lot:
+            self.leads[spot] = first
+        return True
 
 
 class Links:
     """Where SPOTS come from: each has a MARK, or something made it of what it read."""
 
-    def __init__(self, row, made, marks):
-        self.row = row
+    def __init__(self, made, marks):
         self.made = made
         self.marks = marks
+        self.table = {spot: True for spot in [*made, *marks]}
+        self.row = sorted(self.table)
 
 
 def links_of(runs):
@@ -39,9 +40,10 @@ def links_of(runs):
     for place, (plan, variant, counts) in enumerate(runs):
         for _, method, reads, sheet, _ in working(plan, variant):
             made[(place, sheet)] = (method, tuple([(place, read) for read in reads]))
-        told = [((place, sheet), mark) for sheet, mark in counts]
-        marks.update({spot: mark for spot, mark in told if spot not in made})
-    return Links(sorted([*made, *marks]), made, marks)
+        for sheet, mark in counts:
+            if (place, sheet) not in made:
+                marks[(place, sheet)] = mark
+    return Links(made, marks)
 
 
 def makers_at(runs):
@@ -66,10 +68,10 @@ def joinings_of(links, seen):
 
 def made_joinings(links, groups):
     """The JOININGS by which METHODS, looked through once, put SPOTS together that were not."""
-    makers, found = {}, []
+    makers, found, leads = {}, [], groups.leads
     for spot, (method, reads) in links.made.items():
-        first = makers.setdefault((method, tuple([groups.lead(read) for read in reads])), spot)
-        if groups.put(first, spot):
+        first = makers.setdefault((method, tuple([leads[read] for read in reads])), spot)
+        if first != spot and groups.put(first, spot):
             found.append(("made", first, spot))
     return found
 
@@ -79,8 +81,18 @@ def numbered(links, seen):
     _, groups = joinings_of(links, seen)
     numbers, table = {}, {}
     for spot in links.row:
-        table[spot] = numbers.setdefault(groups.lead(spot), len(numbers))
+        table[spot] = numbers.setdefault(groups.leads[spot], len(numbers))
     return table
+
+
+def classes_at(runs, seen, some):
+    """The Links of the SPOTS and the number of the CLASS of each one; raises NoSpot for the first that is none.
+
+    It is looked for in seen, then in some; both have tuples for pairs, the RUNS may have lists.
+    """
+    links = links_of(runs)
+    expect_spots(links.table, [*spots_in_pairs(seen), *some])
+    return links, numbered(links, seen)
 
 
 def free_book(links, table):

@@ -3,7 +3,7 @@
 from reportalike.books import played, reading_row
 from reportalike.errors import NoPaper, NoSheet, NotSound
 from reportalike.forms import as_set, subsets, tupled
-from reportalike.groups import free_book, links_of, numbered
+from reportalike.groups import classes_at, free_book
 from reportalike.plans import is_sound
 from reportalike.runs import held_sheets, untold
 from reportalike.steps import working
@@ -63,15 +63,13 @@ class Beside:
     """RUNS, what was seen of them, and RUNS more, of which nothing is seen: these put no CLASSES together."""
 
     def __init__(self, runs, seen):
-        rows, pairs = tupled((runs, seen))
-        links = links_of(rows)
-        self.table = numbered(links, pairs)
+        links, self.table = classes_at(runs, tupled(seen), [])
         self.book = free_book(links, self.table)
         self.had = {number: True for number in self.table.values()}
 
     def held(self, run):
         """The number of the CLASS of each SHEET of one RUN more, unlike those of all SPOTS where it is fresh."""
-        plan, variant, counts = tupled(run)
+        plan, variant, counts = run
         return played(reading_row(working(plan, variant)), counts, self.book)
 
 
@@ -87,7 +85,7 @@ def held_with(beside, run, sheets):
 def at_hand(runs, seen, run, sheet):
     beside = Beside(runs, seen)
     number = held_with(beside, run, [sheet])[sheet]
-    return tuple([spot for spot in sorted(beside.table) if beside.table[spot] == number])
+    return tuple([spot for spot in beside.table if beside.table[spot] == number])
 
 
 def fresh_sheets(runs, seen, run):
@@ -115,7 +113,7 @@ def is_none_paper(runs, seen, run, sheet, thing):
 def steps_wanted(runs, seen, run, sheets):
     beside = Beside(runs, seen)
     held = held_with(beside, run, sheets)
-    plan, variant, _ = tupled(run)
+    plan, variant, _ = run
     makers = {}
     for step in working(plan, variant):
         makers.setdefault(held[step[3]], []).append(step)

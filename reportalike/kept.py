@@ -2,7 +2,7 @@
 
 from reportalike.books import played, reading_row
 from reportalike.forms import as_set, is_part_of, subsets_by_size, tupled
-from reportalike.groups import free_book, links_of, numbered
+from reportalike.groups import classes_at, free_book, links_of, numbered
 from reportalike.plans import needed_at
 from reportalike.steps import counts_needed, working
 
@@ -11,9 +11,8 @@ class Keeping:
     """A RUN and its goals: the CLASSES of its SHEETS, who makes them, and what the made ones hang on."""
 
     def __init__(self, run, seen, goals):
-        rows = tupled((run,))
-        plan, variant, _ = rows[0]
-        table = numbered(links_of(rows), tupled(seen))
+        plan, variant, _ = run
+        table = numbered(links_of((run,)), tupled(seen))
         self.classes = {sheet: number for (_, sheet), number in table.items()}
         self.goals = tupled(goals)
         self.needed = counts_needed(plan, variant)
@@ -121,17 +120,16 @@ def least_made(run, seen, goals, kept):
 
 
 def turn_asking(runs, seen, place, goals, spot, back, many):
-    rows, pairs, told = tupled((runs, seen, back))
-    links = links_of(rows)
-    table = numbered(links, pairs)
+    told, at = tupled((back, spot))
+    links, table = classes_at(runs, tupled(seen), [at])
     book = free_book(links, table)
-    plan, variant, counts = rows[place]
+    plan, variant, counts = runs[place]
     steps, names = reading_row(working(plan, variant)), needed_at(plan, variant, goals)
     for turn in turns_back(told, many):
         # Nothing is seen of the turned RUN, so it puts none of the CLASSES together.
         new = {sheet: mark for sheet, mark in turn}
         held = played(steps, [(sheet, new.get(sheet, mark)) for sheet, mark in counts], book)
-        if any([held[step[3]] == table[tupled(spot)] for step in steps if step[0] in names]):
+        if any([held[step[3]] == table[at] for step in steps if step[0] in names]):
             return turn
     return None
 

@@ -32,12 +32,12 @@ class Labels:
     """The labels of the made SPOTS of RUNS by one KIND."""
 
     def __init__(self, runs, kind):
-        rows = tupled(runs)
         self.kind = tupled(kind)
-        self.links = links_of(rows)
-        self.steps = makers_at(rows)
-        self.variants = [variant for _, variant, _ in rows]
+        self.links = links_of(runs)
+        self.steps = makers_at(runs)
+        self.variants = [variant for _, variant, _ in runs]
         self.made = [spot for spot in self.links.row if spot in self.steps]
+        self.known = {}
 
     def expect(self, some):
         """Raises NoSpot for the first of some that is no made SPOT."""
@@ -46,19 +46,22 @@ class Labels:
                 raise NoSpot(spot)
 
     def label(self, spot):
-        return tuple([self.part(spot, word, told) for word, told in self.kind])
+        if spot not in self.known:
+            self.known[spot] = tuple([self.part(spot, word, told) for word, told in self.kind])
+        return self.known[spot]
 
     def part(self, spot, word, told):
         place, sheet = spot
         name, method, reads, _, _ = self.steps[spot]
-        plain = {"method": method, "name": name, "sheet": sheet}
-        if word in plain:
-            return plain[word]
-        if word == "flag":
-            return told in self.variants[place]
+        if word == "read":
+            return (place, reads[int(told)]) if int(told) < len(reads) else None
         if word == "counts":
             return (place, told) if (place, told) in self.links.marks else None
-        return (place, reads[int(told)]) if int(told) < len(reads) else None
+        if word == "flag":
+            return told in self.variants[place]
+        if word == "method":
+            return method
+        return name if word == "name" else sheet
 
     def ties(self, one, other):
         """The tied pairs of two made SPOTS; None if they can not share."""
@@ -136,7 +139,7 @@ def is_hit_paper(runs, seen, kind, one, other, thing):
 
 
 def with_book(runs, kind, world):
-    labels, book = Labels(runs, kind), Given(tupled(world))
+    labels, book = Labels(runs, kind), Given(world)
     ends, found, hits = [], {}, []
     for place, (steps, counts) in enumerate(laid_out(runs)):
         held = {sheet: book.held(mark) for sheet, mark in counts}

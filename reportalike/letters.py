@@ -1,9 +1,8 @@
 """Late letters to a branch: what may stand in the end, and whether it does harm."""
 
 from reportalike.books import reading_row, taken
-from reportalike.errors import NoSpot
 from reportalike.forms import as_set, choices, is_number, is_tuple_of, subsets_by_size, tupled
-from reportalike.groups import free_book, links_of, numbered
+from reportalike.groups import classes_at, free_book
 from reportalike.plans import needed_at
 from reportalike.runs import is_spot_form, spot_table
 from reportalike.steps import counts_needed, working
@@ -27,13 +26,9 @@ class Anew:
     """A SHEET of now, done anew by MIXES; raises NoSpot if now has no such SHEET."""
 
     def __init__(self, runs, seen, sheet):
-        rows, pairs = tupled((runs, seen))
-        links = links_of(rows)
-        self.table = numbered(links, pairs)
-        self.spot = (len(rows) - 1, sheet)
-        if self.spot not in self.table:
-            raise NoSpot(self.spot)
-        plan, variant, _ = rows[-1]
+        self.spot = (len(runs) - 1, sheet)
+        links, self.table = classes_at(runs, tupled(seen), [self.spot])
+        plan, variant, _ = runs[-1]
         names = needed_at(plan, variant, (sheet,))
         self.steps = [step for step in reading_row(working(plan, variant)) if step[0] in names]
         self.needs = counts_needed(plan, variant)

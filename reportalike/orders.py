@@ -4,8 +4,7 @@ from reportalike.errors import NoNumber, NoOrder, NoPaper, NoSheet, NoStep
 from reportalike.books import Given
 from reportalike.flows import Flow, first_order, free_in, how_many_ways, order_by, sure_ends, without
 from reportalike.forms import are_names, as_set, is_ascending, is_tuple_of, subsets, tupled
-from reportalike.free import class_table
-from reportalike.groups import free_book, links_of
+from reportalike.groups import classes_at, free_book
 from reportalike.rows import ahead_table, only_fed
 from reportalike.runs import held_sheets
 from reportalike.worlds import agrees, held_at, is_world
@@ -101,7 +100,7 @@ def left_in(run, order, world):
     row, flow = tupled(order), Flow(run, ())
     if not are_names(row) or sorted(row) != sorted(flow.steps):
         raise NoOrder()
-    return tuple(sorted(flow.end(row, Given(tupled(world))).items()))
+    return tuple(sorted(flow.end(row, Given(world)).items()))
 
 
 def expect_place(runs, place):
@@ -112,9 +111,8 @@ def expect_place(runs, place):
 def studied(runs, seen, place, waits):
     """The Flow of this RUN, the CLASSES of all SPOTS, and a free book of them; raises NoNumber for the place."""
     expect_place(runs, place)
-    rows, pairs = tupled((runs, seen))
-    table = class_table(rows, pairs, [])
-    return Flow(rows[place], waits), table, free_book(links_of(rows), table)
+    links, table = classes_at(runs, tupled(seen), [])
+    return Flow(runs[place], waits), table, free_book(links, table)
 
 
 def same_for_all(runs, seen, place, waits):

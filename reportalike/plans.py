@@ -1,14 +1,14 @@
 """PLANS that are sound, orders for all VARIANTS, and the STEPS and FLAGS that a SHEET needs."""
 
-from reportalike.books import Free, played, reading_row
+from reportalike.books import Free
 from reportalike.errors import NoOrder, NoPaper
-from reportalike.forms import are_names, as_set, is_ascending, is_name_set, is_tuple_of, pairs_among, tupled
+from reportalike.forms import are_names, as_set, is_ascending, is_name_set, is_tuple_of, pairs_among
 from reportalike.rows import ring_of, row_of
 from reportalike.steps import counts_needed, flags_in, made_at, working, variants_of
 
 
 def clash(one, other):
-    return flag_at_odds((one, other)) is not None
+    return bool(one) and bool(other) and flag_at_odds((one, other)) is not None
 
 
 def flag_at_odds(conditions):
@@ -50,10 +50,10 @@ def twins_in(steps):
 
 def ring_in(steps):
     """The STEPS of a ring that run together at some VARIANT, each feeding the next; () if there is none."""
-    table = {step[0]: step for step in steps}
     waiting = [steps]
     while waiting:
         some = waiting.pop()
+        table = {step[0]: step for step in some}
         ring = [table[name] for name in ring_of(feeders_of(some))]
         flag = flag_at_odds([step[4] for step in ring])
         if ring and flag is None:
@@ -61,19 +61,22 @@ def ring_in(steps):
         if ring:
             # No ring that runs together has STEPS of both kinds, so each kind is looked through without the other.
             for on in (0, 1):
-                waiting.append([step for step in some if (flag, on) not in step[4]])
+                waiting.append([step for step in some if not asks_for(step[4], flag, on)])
     return ()
 
 
+def asks_for(condition, flag, on):
+    """Whether this FLAG must be so."""
+    return any([one == flag and told == on for one, told in condition])
+
+
 def is_sound(plan):
-    steps = tupled(plan)
-    return not twins_in(steps) and not ring_in(steps)
+    return not twins_in(plan) and not ring_in(plan)
 
 
 def unsound(plan):
-    steps = tupled(plan)
-    twins = twins_in(steps)
-    bad = twins or ring_in(steps)
+    twins = twins_in(plan)
+    bad = twins or ring_in(plan)
     if not bad:
         raise NoPaper()
     variant = as_set([flag for step in bad for flag, on in step[4] if on])
@@ -104,14 +107,14 @@ def is_ring(steps):
 
 
 def one_order(plan):
-    row = row_of(feeders_of(tupled(plan)))
+    row = row_of(feeders_of(plan))
     if row is None:
         raise NoOrder()
     return row
 
 
 def is_one_order(plan, thing):
-    feeders = feeders_of(tupled(plan))
+    feeders = feeders_of(plan)
     if not are_names(thing) or sorted(thing) != sorted(feeders):
         return False
     places = {name: at for at, name in enumerate(thing)}
@@ -119,14 +122,14 @@ def is_one_order(plan, thing):
 
 
 def loose_ring(plan):
-    ring = ring_of(feeders_of(tupled(plan)))
+    ring = ring_of(feeders_of(plan))
     if not ring:
         raise NoPaper()
     return ring
 
 
 def is_loose_ring(plan, thing):
-    table = {step[0]: step for step in tupled(plan)}
+    table = {step[0]: step for step in plan}
     if not are_names(thing) or not all([name in table for name in thing]):
         return False
     steps = [table[name] for name in thing]
@@ -173,14 +176,26 @@ def told_alike(plan, sheet, one, other):
 
 def sheet_told(plan, sheet, variant, book):
     """The number of what the SHEET holds in the end, each SHEET that is not made having a MARK of its own."""
-    ahead = [(name, name) for name in (*counts_needed(plan, variant), sheet)]
-    return played(reading_row(working(plan, variant)), ahead, book)[sheet]
+    return told_of(sheet, {step[3]: step for step in working(plan, variant)}, {}, book)
+
+
+def told_of(sheet, makers, held, book):
+    """The same, of what these make; held keeps what was worked out before."""
+    if sheet not in held:
+        step = makers.get(sheet)
+        if step is None:
+            held[sheet] = book.held(sheet)
+        else:
+            held[sheet] = book.told(step[1], tuple([told_of(read, makers, held, book) for read in step[2]]))
+    return held[sheet]
 
 
 def felt_flags(plan, sheet):
+    book, flags = Free(), flags_in(plan)
+    told = {variant: sheet_told(plan, sheet, variant, book) for variant in variants_of(plan)}
     felt = []
-    for flag in flags_in(plan):
-        for variant in variants_of(plan):
-            if flag not in variant and not told_alike(plan, sheet, variant, as_set([*variant, flag])):
+    for flag in flags:
+        for variant in told:
+            if flag not in variant and told[variant] != told[as_set([*variant, flag])]:
                 felt.append(flag)
     return as_set(felt)

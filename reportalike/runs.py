@@ -3,7 +3,7 @@
 from reportalike.errors import NoSheet, NoSpot
 from reportalike.forms import as_set, is_ascending, is_name, is_name_set, is_number, is_tuple_of, tupled
 from reportalike.plans import is_sound
-from reportalike.steps import counts_needed, is_plan, made_at, running
+from reportalike.steps import counts_needed, is_plan, made_at, working
 
 
 def is_counts(thing):
@@ -56,11 +56,10 @@ def is_seen(runs, thing):
 
 
 def new_run(plan, variant, counts):
-    run = tupled((plan, variant, counts))
-    sheet = untold(*run)
+    sheet = untold(plan, variant, counts)
     if sheet is not None:
         raise NoSheet(sheet)
-    return run
+    return tupled((plan, variant, counts))
 
 
 def held_sheets(run):
@@ -76,23 +75,26 @@ def mark_of(run, sheet):
 
 
 def cleaned(run):
-    plan, variant, counts = tupled(run)
-    needed = {sheet: True for sheet in counts_needed(plan, variant)}
-    return running(plan, variant), variant, tuple([pair for pair in counts if pair[0] in needed])
+    plan, variant, counts = run
+    needed = counts_needed(plan, variant)
+    return tupled((working(plan, variant), variant, [pair for pair in counts if pair[0] in needed]))
 
 
 def spots(runs):
-    return tuple([(place, sheet) for place, run in enumerate(runs) for sheet in held_sheets(run)])
+    return tuple(sorted(spot_table(runs)))
 
 
 def spot_table(runs):
     """A dict with all SPOTS."""
-    return {spot: True for spot in spots(runs)}
+    table = {}
+    for place, (plan, variant, counts) in enumerate(runs):
+        for sheet in [*[step[3] for step in working(plan, variant)], *[told for told, _ in counts]]:
+            table[(place, sheet)] = True
+    return table
 
 
-def expect_spots(runs, row):
-    """Raises NoSpot for the first one in the row that is no SPOT of the RUNS."""
-    table = spot_table(runs)
+def expect_spots(table, row):
+    """Raises NoSpot for the first one in the row that is none in this table of all SPOTS."""
     for spot in row:
         if spot not in table:
             raise NoSpot(spot)

@@ -33,7 +33,7 @@ def holds(condition, variant):
 
 
 def running(plan, variant):
-    return tuple(working(tupled(plan), variant))
+    return tuple([tupled(step) for step in working(plan, variant)])
 
 
 def working(steps, variant):
@@ -42,9 +42,9 @@ def working(steps, variant):
 
 
 def step_of(plan, name):
-    for step in tupled(plan):
+    for step in plan:
         if step[0] == name:
-            return step
+            return tupled(step)
     raise NoStep(name)
 
 
@@ -82,22 +82,23 @@ def maker(plan, variant, sheet):
 
 
 def with_step(plan, step):
-    steps, more = tupled(plan), tupled(step)
-    if any([other[0] == more[0] for other in steps]):
-        raise Twice(more[0])
-    return tuple(sorted([*steps, more]))
+    if step[0] in [other[0] for other in plan]:
+        raise Twice(step[0])
+    return tuple(sorted(tupled([*plan, step])))
 
 
 def without_step(plan, name):
-    gone = step_of(plan, name)
-    return tuple([step for step in tupled(plan) if step != gone])
+    if name not in [step[0] for step in plan]:
+        raise NoStep(name)
+    return tupled([step for step in plan if step[0] != name])
 
 
 def renamed_sheets(plan, pairs):
     names = {first: second for first, second in pairs}
-    return tuple([renamed_step(step, names) for step in tupled(plan)])
+    return tuple([renamed_step(step, names) for step in plan])
 
 
 def renamed_step(step, names):
     name, method, reads, sheet, condition = step
-    return name, method, tuple([names.get(read, read) for read in reads]), names.get(sheet, sheet), condition
+    turned = tuple([names.get(read, read) for read in reads])
+    return name, method, turned, names.get(sheet, sheet), tupled(condition)

@@ -10,10 +10,9 @@ class Case:
     """The RUNS, SEEN pairs and SPOTS that are asked about; raises NoSpot for the first SPOT that is none."""
 
     def __init__(self, runs, seen, some):
-        self.seen = tupled(seen)
-        self.some = tupled(some)
-        expect_spots(runs, [*spots_in_pairs(self.seen), *self.some])
-        self.links = links_of(tupled(runs))
+        self.seen, self.some = tupled((seen, some))
+        self.links = links_of(runs)
+        expect_spots(self.links.table, [*spots_in_pairs(self.seen), *self.some])
 
     def table(self, places):
         """The CLASSES by the SEEN pairs with these places alone."""
@@ -35,7 +34,7 @@ class Case:
 def why(runs, seen, one, other):
     case = Case(runs, seen, (one, other))
     joinings, groups = joinings_of(case.links, case.seen)
-    if groups.lead(case.some[0]) != groups.lead(case.some[1]):
+    if groups.leads[case.some[0]] != groups.leads[case.some[1]]:
         raise NoPaper()
     # From the last one on: what one of them needs stands ahead of it, so none that stays gets needless later.
     kept = tuple(joinings)
@@ -73,12 +72,12 @@ def shows(case, joinings):
     for joining in joinings:
         if joining[0] == "made":
             reads = [case.links.made[spot][1] for spot in joining[1:]]
-            if any([groups.lead(first) != groups.lead(second) for first, second in zip(reads[0], reads[1])]):
+            if any([groups.leads[first] != groups.leads[second] for first, second in zip(reads[0], reads[1])]):
                 return False
         first, second = case.seen[joining[1]] if joining[0] == "seen" else joining[1:]
         groups.put(first, second)
     one, other = case.some
-    return groups.lead(one) == groups.lead(other)
+    return groups.leads[one] == groups.leads[other]
 
 
 def needless(runs, seen):

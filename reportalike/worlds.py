@@ -3,7 +3,7 @@
 from reportalike.books import Given, played, reading_row
 from reportalike.errors import NoNumber, NoSpot
 from reportalike.forms import as_set, is_ascending, is_name, is_number, is_tuple_of, tupled
-from reportalike.runs import expect_spots, spots_in_pairs
+from reportalike.runs import expect_spots, spot_table, spots_in_pairs
 from reportalike.steps import working
 
 
@@ -38,16 +38,16 @@ def is_row(thing):
 
 
 def told_by(world, method, ins):
-    return Given(tupled(world)).told(method, tupled(ins))
+    return Given(world).told(method, tuple(ins))
 
 
 def held_by(world, mark):
-    return Given(tupled(world)).held(mark)
+    return Given(world).held(mark)
 
 
 def laid_out(runs):
     """Of each RUN the pair of its STEPS that run, in a row in which they can be taken, and its COUNTS."""
-    return [(reading_row(working(plan, variant)), counts) for plan, variant, counts in tupled(runs)]
+    return [(reading_row(working(plan, variant)), counts) for plan, variant, counts in runs]
 
 
 def numbers_at(book, laid):
@@ -58,7 +58,7 @@ def numbers_at(book, laid):
 
 def numbers_in(world, runs):
     """What each SPOT of the RUNS holds in this WORLD."""
-    return numbers_at(Given(tupled(world)), laid_out(runs))
+    return numbers_at(Given(world), laid_out(runs))
 
 
 def held_in(world, run):
@@ -79,9 +79,8 @@ def agrees(world, runs, seen):
 
 
 def first_broken(world, runs, seen):
-    pairs = tupled(seen)
-    expect_spots(runs, spots_in_pairs(pairs))
-    numbers = numbers_in(world, runs)
+    pairs, numbers = tupled(seen), numbers_in(world, runs)
+    expect_spots(numbers, spots_in_pairs(pairs))
     for one, other in pairs:
         if numbers[one] != numbers[other]:
             return one, other
@@ -97,11 +96,10 @@ def same_spots(world, runs):
 
 
 def asked_of(world, runs):
-    numbers = numbers_in(world, runs)
-    asked = []
-    for place, (steps, _) in enumerate(laid_out(runs)):
-        for step in steps:
-            asked.append((step[1], tuple([numbers[(place, read)] for read in step[2]])))
+    book, asked = Given(world), []
+    for steps, counts in laid_out(runs):
+        held = played(steps, counts, book)
+        asked.extend([(step[1], tuple([held[read] for read in step[2]])) for step in steps])
     return as_set(asked)
 
 
@@ -111,7 +109,7 @@ def marks_in(runs):
 
 
 def cut_world(world, runs):
-    book = Given(tupled(world))
+    book = Given(world)
     contents = tuple([(mark, book.held(mark)) for mark in marks_in(runs)])
     tables = tuple([(method, ins, book.told(method, ins)) for method, ins in asked_of(world, runs)])
     return contents, tables, book.rest
@@ -162,7 +160,7 @@ def plain_world(marks, rows, many, number):
 
 def same_in_all(runs, seen, one, other, many):
     first, second, pairs = tupled((one, other, seen))
-    expect_spots(runs, [first, second, *spots_in_pairs(pairs)])
+    expect_spots(spot_table(runs), [first, second, *spots_in_pairs(pairs)])
     marks, rows, laid = marks_in(runs), rows_in(runs, many), laid_out(runs)
     for number in range(how_many_worlds(runs, many)):
         numbers = numbers_at(Given(plain_world(marks, rows, many, number)), laid)

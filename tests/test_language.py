@@ -12,7 +12,7 @@ ALLOWED = """len range enumerate zip min max sum abs sorted reversed int str boo
 divmod ValueError LookupError""".split()
 METHODS = """append clear copy count endswith extend find get index insert isalnum isalpha isdigit islower isspace isupper items
 join keys ljust lower lstrip partition pop remove replace reverse rfind rjust rpartition rsplit rstrip setdefault split
-splitlines startswith strip update upper values zfill bit_length""".split()
+splitlines startswith strip update upper values zfill bit_length isascii""".split()
 WORDS = """type typing enum Enum IntEnum StrEnum Flag IntFlag Generic Protocol ABC ABCMeta namedtuple NamedTuple TypedDict
 abstractmethod dataclass overload contextmanager open input law elements mro register""".split()
 ONCE = ("zip", "enumerate", "reversed", "range", "items", "keys", "values")
