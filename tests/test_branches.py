@@ -283,7 +283,7 @@ class Doing(unittest.TestCase):
             own = Copies(runs, story)
             names = sorted(own.steps)
             for branch in ("east", "west"):
-                row = tuple(rng.choice(names) for _ in range(rng.randint(0, 4)))
+                row = tuple(rng.choice(names) for _ in range(rng.randint(0, 4) if names else 0))
                 expected = set()
                 for name in row:
                     number, sheet = own.gives(branch, name), own.steps[name][3]
