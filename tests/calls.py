@@ -248,6 +248,113 @@ CALLS.update({
     ],
 })
 
+# Readers, bad SHEETS, REPORTS.
+OFFICE = (
+    ("add", "sum", ("north", "south"), "all", ()), ("cut", "top", ("all",), "best", ()), ("low", "avg", ("north",), "min", ()),
+    ("mean", "avg", ("south",), "mid", ()),
+)
+OFFICES = ((OFFICE, (), (("north", "m"), ("south", "n"))),)
+NORTH, SOUTH, BEST, MID, MIN = [(0, sheet) for sheet in ("north", "south", "best", "mid", "min")]
+ENDS = ((BEST, MID),)
+AVERAGES = (("avg", (1,), 5), ("avg", (2,), 6), ("avg", (3,), 5))
+TWO_WORLDS = (((("m", 1), ("n", 1)), AVERAGES, 0), ((("m", 1), ("n", 3)), AVERAGES, 0))
+HEARD = {"runs": OFFICES, "seen": ENDS}
+SUMMED = (OFFICE[:2], (), OFFICES[0][2])
+WRONG_SUM = ((("a", 7), ("m", 1), ("n", 2)), (("sum", (1, 2), 3), ("top", (3,), 4), ("top", (7,), 5)), 0)
+DOUBTED = {"run": SUMMED, "seen": (((0, "best"), (0, "north")),), "bad": ("all", "south")}
+SAID = (("east", NORTH, 5), ("east", SOUTH, 5), ("west", MID, 7), ("west", MIN, 8))
+LIED = {"runs": OFFICES, "seen": (), "reports": SAID}
+LOTS = (("east",), ("west",))
+LIE = (("west",), ((("m", 5), ("n", 5)), (("avg", (5,), 9), ("sum", (5, 5), 3)), 0))
+
+# PLANS turned into others.
+FLAT = (("draft", "sum", ("in", "old"), "page", ()),)
+EVEN = (
+    ("draft", "sum", ("in", "old"), "out", (("fast", 0),)), ("quick", "sum", ("old", "in"), "out", (("fast", 1),)),
+    ("tell", "put", ("out",), "page", ()),
+)
+HABITS = (("put", "copy"), ("sum", "even"))
+SAME_AGAIN = (
+    ("a", "m", ("in",), "f", ()), ("b", "m", ("in",), "g", ()), ("c", "n", ("f", "g"), "h", ()), ("d", "n", ("g", "f"), "k", (("u", 1),)),
+)
+LEAST = (("x", "m", ("in",), "y", ()), ("z", "n", ("y", "y"), "h", ()))
+
+# The judge, and texts.
+HANGING = (("p", "f", ("a", "b"), "x", ()), ("q", "f", ("x", "b"), "y", ()), ("r", "g", ("b",), "z", ()))
+HUNG = ((HANGING, (), (("a", "m"), ("b", "n"))), (HANGING, (), (("a", "o"), ("b", "n"))))
+DOWN = tuple(((0, sheet), (1, sheet)) for sheet in "yxa")
+PROMISED = ("alike", HUNG, (((0, "a"), (1, "a")), ((0, "x"), (1, "x"))), (0, "y"), (1, "y"))
+BROKEN = ("told", OFFICES, ENDS, (NORTH,), SOUTH)
+PLAN_LINE = "p: f(a b) > x if +u -v; q: g() > y"
+RUN_LINE = "q: g(a) > y @ u @ a=m"
+WORLD_LINE = "m=-3; f(0 1)=2 | g()=7; 5"
+
+CALLS.update({
+    "readers": [
+        ("told_spots", {**HEARD, "have": (NORTH,)}), ("is_told", {**HEARD, "have": (SOUTH,), "spot": BEST}),
+        ("two_worlds", {**HEARD, "have": (NORTH,), "spot": SOUTH}),
+        ("is_two_worlds", {"runs": OFFICES, "seen": (), "have": (NORTH, MID), "spot": SOUTH, "thing": TWO_WORLDS}),
+        ("marks_that_matter", {**HEARD, "spot": BEST}), ("can_give", {**HEARD, "have": (NORTH,), "secret": (BEST,), "spot": MIN}),
+        ("full_gifts", {**HEARD, "have": (NORTH,), "secret": (BEST,)}),
+        ("bands", {**HEARD, "haves": ((NORTH,), (SOUTH,), (MID, NORTH)), "spot": (0, "all")}),
+        ("two_worlds", {**HEARD, "have": (SOUTH,), "spot": BEST}), ("told_spots", {**HEARD, "have": ((1, "north"),)}),
+        ("bands", {**HEARD, "haves": ((NORTH,), ((0, "west"),)), "spot": (0, "all")}),
+    ],
+    "trust": [
+        ("bad_run", {"run": SUMMED, "bad": ("all", "south")}), ("reached", DOUBTED), ("surely_right", {**DOUBTED, "checks": ("all",)}),
+        ("wrong_world", {**DOUBTED, "checks": ("all",), "sheet": "south"}),
+        ("is_wrong_world", {"run": SUMMED, "seen": (), "bad": ("all",), "checks": ("north",), "sheet": "best", "thing": WRONG_SUM}),
+        ("fewest_checks", {**DOUBTED, "wanted": ("all", "best")}), ("behind_reruns", {**DOUBTED, "again": ("all", "best")}),
+        ("fewest_reruns", {**DOUBTED, "bad": ("all",), "wanted": ("best",)}), ("wrong_world", {**DOUBTED, "checks": ("all",), "sheet": "best"}),
+        ("reached", {**DOUBTED, "bad": ("west",)}), ("reached", {**DOUBTED, "seen": (((0, "best"), (1, "north")),)}),
+        ("fewest_reruns", {**DOUBTED, "wanted": ("south",)}),
+    ],
+    "liars": [
+        ("can_be", {**LIED, "lot": ("west",)}), ("lots_that_can_be", {**LIED, "lots": (("west",), (), ("east", "west"))}),
+        ("least_liars", LIED), ("surely_holds", {**LIED, "lots": LOTS[1:], "spot": SOUTH}), ("surely_lie", {**LIED, "lots": LOTS[1:]}),
+        ("other_world", {**LIED, "lots": LOTS, "spot": MID, "number": 7}),
+        ("is_other_world", {**LIED, "lots": LOTS, "spot": MID, "number": 7, "thing": LIE}),
+        ("other_world", {**LIED, "lots": LOTS[1:], "spot": SOUTH, "number": 5}),
+        ("surely_holds", {**LIED, "lots": LOTS[1:], "spot": (1, "mid")}), ("can_be", {**LIED, "reports": (("east", (4, "mid"), 5),), "lot": ()}),
+    ],
+    "turned": [
+        ("is_habits", {"thing": HABITS}), ("tell_alike", {"one": EVEN, "other": FLAT, "goals": ("page",), "habits": HABITS}),
+        ("apart_at", {"one": EVEN, "other": FLAT, "goals": ("old", "page"), "habits": HABITS[:1]}),
+        ("least_steps", {"one": SAME_AGAIN, "variant": ("u",), "goals": ("h", "k")}),
+        ("least_plan", {"one": SAME_AGAIN, "variant": ("u",), "goals": ("h", "k")}),
+        ("is_least_plan", {"one": SAME_AGAIN, "variant": (), "goals": ("h",), "thing": LEAST}),
+        ("fused", {"one": SAME_AGAIN, "name": "a", "second": "b"}),
+        ("can_fuse", {"one": SAME_AGAIN, "name": "a", "second": "b", "goals": ("h",), "habits": ()}),
+        ("fusable", {"one": SAME_AGAIN, "goals": ("h", "k"), "habits": HABITS}),
+        ("without_flag", {"one": SAME_AGAIN, "name": "d", "flag": "u"}),
+        ("idle_flags", {"one": SAME_AGAIN, "goals": ("h",), "habits": ()}), ("slimmed", {"one": SAME_AGAIN, "goals": ("k",)}),
+        ("parted", {"one": SAME_AGAIN, "name": "d", "flag": "b", "new": "e"}), ("fused", {"one": SAME_AGAIN, "name": "x", "second": "y"}),
+        ("parted", {"one": SAME_AGAIN, "name": "d", "flag": "b", "new": "a"}),
+        ("parted", {"one": SAME_AGAIN, "name": "e", "flag": "b", "new": "a"}),
+    ],
+    "judge": [
+        ("stands", {"promise": PROMISED}), ("paper", {"promise": BROKEN}),
+        ("is_paper", {"promise": ("told", OFFICES, (), (NORTH,), SOUTH), "thing": TWO_WORLDS}),
+        ("is_paper", {"promise": ("plans", EVEN, FLAT, ("page",), HABITS[:1]), "thing": (("fast",), "page")}),
+        ("without_seen", {"promise": PROMISED, "places": (1,)}), ("leans_on", {"promise": PROMISED}),
+        ("falls_at", {"promise": PROMISED, "turns": (1, 0)}), ("blame", {"runs": HUNG, "seen": (), "one": (0, "y"), "other": (1, "y")}),
+        ("is_blame", {"runs": HUNG, "seen": (), "one": (0, "y"), "other": (1, "y"), "thing": DOWN}),
+        ("paper", {"promise": PROMISED}), ("stands", {"promise": ("surely", PLAN)}), ("without_seen", {"promise": PROMISED, "places": (0, 2)}),
+        ("blame", {"runs": HUNG, "seen": (), "one": (0, "c"), "other": (1, "y")}), ("paper", {"promise": ("sound", TWO)}),
+        ("leans_on", {"promise": ("sound", TWO)}),
+    ],
+    "texts": [
+        ("plan_text", {"plan": PLAN}), ("plan_in", {"text": PLAN_LINE}), ("counts_text", {"counts": COUNTS}), ("counts_in", {"text": "a=m b=n"}),
+        ("run_text", {"run": RUN}), ("run_in", {"text": RUN_LINE}), ("runs_text", {"runs": RUNS}), ("runs_in", {"text": "- @ - @ - | " + RUN_LINE}),
+        ("seen_text", {"seen": PAIRS}), ("seen_in", {"text": "0.a~0.b 0.a~1.x"}), ("world_text", {"world": WORLD}), ("world_in", {"text": WORLD_LINE}),
+        ("plan_in", {"text": PLAN_LINE + " "}),
+    ],
+    "desk": [
+        ("is_request", {"thing": "see 0.a 1.b"}), ("replies", {"text": "tell " + RUN_LINE + "\nalike 0.a 0.y\nundo\nundo"}),
+        ("replies", {"text": "undo\ndo"}),
+    ],
+})
+
 INTERFACE = {
     "steps": "is_condition is_step is_plan holds running step_of flags_in methods_in sheets_in variants_of made_at counts_needed "
              "maker with_step without_step renamed_sheets",
@@ -272,8 +379,16 @@ INTERFACE = {
              "can_make",
     "branches": "is_story copies held_there same_copies moments odd_world is_odd_world unsettled doing_row",
     "letters": "is_mix right_by may_stand bad_mix turned_away last_ones bad_order is_bad_order fewest_kept",
+    "readers": "told_spots is_told two_worlds is_two_worlds marks_that_matter can_give full_gifts bands",
+    "trust": "bad_run reached surely_right wrong_world is_wrong_world fewest_checks behind_reruns fewest_reruns",
+    "liars": "can_be lots_that_can_be least_liars surely_holds surely_lie other_world is_other_world",
+    "turned": "is_habits tell_alike apart_at least_steps least_plan is_least_plan fused can_fuse fusable without_flag idle_flags "
+              "slimmed parted",
+    "judge": "stands paper is_paper without_seen leans_on falls_at blame is_blame",
+    "texts": "plan_text plan_in counts_text counts_in run_text run_in runs_text runs_in seen_text seen_in world_text world_in",
+    "desk": "is_request replies",
 }
 
 # What these return is a list; all others return no list at any depth.
 LISTS = ("variants_of", "alike_pairs", "only_by", "more_by", "least_lots", "patterns", "wrong_hits", "least_kinds",
-         "sure_hits", "misses", "openings")
+         "sure_hits", "misses", "openings", "full_gifts", "bands", "least_liars", "fusable", "replies")

@@ -2,9 +2,10 @@
 
 import importlib
 import os
+import re
 
 MODULES = ("errors", "steps", "plans", "runs", "worlds", "free", "why", "orders", "labels", "kept", "changes", "joins", "asked",
-           "deeds", "branches", "letters")
+           "deeds", "branches", "letters", "readers", "trust", "liars", "turned", "judge", "texts", "board", "desk")
 
 
 def all_names():
@@ -21,7 +22,7 @@ def blocks():
     found = []
     with open(path, encoding="ascii") as file:
         for line in file.read().splitlines():
-            if line.startswith("["):
+            if re.fullmatch(r"\[\d+\]", line):
                 found.append((line, []))
             elif line:
                 found[-1][1].append(line)

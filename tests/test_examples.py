@@ -14,7 +14,7 @@ class Examples(unittest.TestCase):
                 with self.subTest(point=point, put=put):
                     self.run_one(names, put, told)
                     count += 1
-        self.assertEqual(count, 96)
+        self.assertEqual(count, 146)
 
     def run_one(self, names, put, told):
         if told is None:
@@ -35,4 +35,4 @@ class Examples(unittest.TestCase):
         self.assertEqual(repr(kept), repr(expected))
 
     def test_each_point_is_there(self):
-        self.assertEqual([point for point, _ in blocks()], [f"[{number}]" for number in range(4, 19)])
+        self.assertEqual([point for point, _ in blocks()], [f"[{number}]" for number in range(4, 27)])

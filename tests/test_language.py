@@ -138,7 +138,7 @@ class Language(unittest.TestCase):
 
     def test_statements_and_expressions(self):
         barred = (ast.AsyncFunctionDef, ast.Global, ast.Nonlocal, ast.GeneratorExp, ast.Lambda, ast.Yield, ast.YieldFrom, ast.Await,
-                  ast.Div, ast.Pow, ast.Mod, ast.NamedExpr, ast.AnnAssign, ast.Try, ast.With, ast.Match, ast.JoinedStr)
+                  ast.Div, ast.Pow, ast.Mod, ast.NamedExpr, ast.AnnAssign, ast.With, ast.Match, ast.JoinedStr)
         for name, node in self.each(*barred):
             self.fail((name, node.lineno, type(node).__name__))
         for name, node in self.each(ast.FunctionDef, ast.ClassDef):
@@ -151,6 +151,21 @@ class Language(unittest.TestCase):
             for sign, side in zip(node.ops, node.comparators):
                 if isinstance(sign, (ast.Is, ast.IsNot)):
                     self.assertIsInstance(side, ast.Constant)
+
+    def test_only_own_errors_are_caught(self):
+        own = {node.name for name, node in self.each(ast.ClassDef) if name == "errors.py"}
+        for name, node in self.each(ast.Try):
+            self.assertFalse(node.finalbody or node.orelse, name)
+            self.assertTrue(all(isinstance(one.type, ast.Name) and one.type.id in own for one in node.handlers), name)
+        for name, function in self.each(ast.FunctionDef):
+            kept = [one.name for one in ast.walk(function) if isinstance(one, ast.ExceptHandler) and one.name]
+            self.assertEqual(len(set(kept)), len(kept), (name, function.name))
+            self.assertFalse(set(kept) & (self.stored(function) | {one.arg for one in function.args.args}))
+
+    def test_stars_in_calls_stand_before_names(self):
+        for name, node in self.each(ast.Call):
+            for argument in node.args:
+                self.assertFalse(isinstance(argument, ast.Starred) and not isinstance(argument.value, ast.Name), (name, node.lineno))
 
     def test_sets_stand_only_where_they_are_sorted_or_counted(self):
         for name, node in self.each(ast.Set, ast.SetComp, ast.Call):
