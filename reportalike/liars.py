@@ -89,16 +89,13 @@ def other_world(runs, seen, reports, lots, spot, number):
 def fitting_world(sayings, lot, number):
     """A WORLD that fits this LOT; CLASSES of which nothing is said hold unlike numbers, none of them this one."""
     table, said = sayings.fitted(lot)
-    taken = {one: True for one in [number, *list(said.values())]}
-    held, least = {}, 0
-    for spot in table:
-        if table[spot] not in said and table[spot] not in held:
-            while least in taken:
-                least += 1
-            held[table[spot]] = least
+    taken, held, least = [number, *list(said.values())], {**said}, 0
+    for own in as_set([one for one in table.values() if one not in said]):
+        while least in taken:
             least += 1
-    told = {**held, **said}
-    return free_book(sayings.links, {spot: told[own] for spot, own in table.items()}).world()
+        held[own] = least
+        least += 1
+    return free_book(sayings.links, {spot: held[own] for spot, own in table.items()}).world()
 
 
 def is_other_world(runs, seen, reports, lots, spot, number, thing):

@@ -176,17 +176,19 @@ def told_alike(plan, sheet, one, other):
 
 def sheet_told(plan, sheet, variant, book):
     """The number of what the SHEET holds in the end, each SHEET that is not made having a MARK of its own."""
-    return told_of(sheet, {step[3]: step for step in working(plan, variant)}, {}, book)
-
-
-def told_of(sheet, makers, held, book):
-    """The same, of what these make; held keeps what was worked out before."""
-    if sheet not in held:
-        step = makers.get(sheet)
-        if step is None:
-            held[sheet] = book.held(sheet)
-        else:
-            held[sheet] = book.told(step[1], tuple([told_of(read, makers, held, book) for read in step[2]]))
+    makers, held, waiting = {step[3]: step for step in working(plan, variant)}, {}, [sheet]
+    # SHEETS wait here for those that they are made of, as STEPS may feed one another in a row of any length.
+    while waiting:
+        own = waiting.pop()
+        if own not in makers:
+            held[own] = book.held(own)
+        elif own not in held:
+            _, method, reads, _, _ = makers[own]
+            missing = [read for read in reads if read not in held]
+            if missing:
+                waiting.extend([own, *missing])
+            else:
+                held[own] = book.told(method, tuple([held[read] for read in reads]))
     return held[sheet]
 
 

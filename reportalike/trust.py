@@ -40,8 +40,8 @@ class Trust:
         self.seen = tupled(seen)
         expect_spots(spot_table((run,)), spots_in_pairs(self.seen))
         expect_sheets(run, [*bad, *some])
-        self.run = tupled(run)
-        self.runs = (self.run, run_with_bad(self.run, bad))
+        self.run = run
+        self.runs = (run, run_with_bad(run, bad))
         self.links = links_of(self.runs)
         self.sheets = held_sheets(run)
 

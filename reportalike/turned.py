@@ -27,7 +27,7 @@ class Habitual:
 def is_habits(thing):
     if not isinstance(thing, tuple) or not all([is_tuple_of(pair, 2) for pair in thing]):
         return False
-    if not all([is_name(method) and is_name(word) and word in ("copy", "even") for method, word in thing]):
+    if not all([is_name(method) and word in ("copy", "even") for method, word in thing]):
         return False
     return is_ascending([method for method, _ in thing])
 

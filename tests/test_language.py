@@ -7,6 +7,8 @@ import re
 import sys
 import unittest
 
+from tests.examples import MODULES
+
 FOLDER = os.path.join(os.path.dirname(os.path.dirname(os.path.abspath(__file__))), "reportalike")
 ALLOWED = """len range enumerate zip min max sum abs sorted reversed int str bool list tuple dict set isinstance repr any all
 divmod ValueError LookupError""".split()
@@ -97,6 +99,16 @@ class Language(unittest.TestCase):
             self.assertTrue(free, "a ring of imports")
             for name in free:
                 del left[name]
+
+    def test_each_file_of_the_interface_needs_only_those_ahead_of_it(self):
+        needs = {name: {node.module.split(".")[1] + ".py" for node in tree_of(name).body if isinstance(node, ast.ImportFrom)} for name in files()}
+        for at, module in enumerate(MODULES):
+            reached, waiting = set(), [module + ".py"]
+            while waiting:
+                name = waiting.pop()
+                waiting.extend(needs[name] - reached)
+                reached |= needs[name]
+            self.assertFalse({later + ".py" for later in MODULES[at:]} & reached, module)
 
     def test_imports_are_used(self):
         for name in files():

@@ -307,3 +307,13 @@ class Alike(unittest.TestCase):
                 ("c", "m", ("in", "in"), "out", (("x", 1), ("y", 1))))
         self.assertEqual(felt_flags(plan, "out"), ("x", "y"))
         self.assertIs(told_alike(plan, "out", (), ("y",)), True)
+
+    def test_steps_in_a_row_of_any_length(self):
+        names = [one + other + third for one in "abcdefghij" for other in "abcdefghij" for third in "abcdefghij"]
+        for row in (names, names[::-1]):
+            steps = [("s" + sheet, "m", (row[at - 1] if at else "start",), sheet, ()) for at, sheet in enumerate(row)]
+            plan = tuple(sorted((*steps, ("zz", "f", (), "start", (("x", 1),)))))
+            self.assertIs(is_sound(plan), True)
+            self.assertIs(told_alike(plan, row[-1], (), ("x",)), False)
+            self.assertIs(told_alike(plan, row[-1], (), ("y",)), True)
+            self.assertEqual(felt_flags(plan, row[-1]), ("x",))

@@ -292,6 +292,7 @@ class Gifts(unittest.TestCase):
         self.assertEqual(bands((RUN,), (), ((A,), (B,), (X,)), Y), [(0, 1), (1, 2)])
         self.assertEqual(bands((RUN,), (), ((A,), (B,)), Z), [()])
         self.assertEqual(bands((RUN,), (), ((A,),), Y), [])
+        self.assertEqual(bands((RUN,), (), ((A,), (B,), (Y,)), Y), [(0, 1), (2,)])
         self.assertEqual(bands((RUN,), (), ((A, B), (B, X), (), (Y,)), Y), [(0,), (1,), (3,)])
 
 
