@@ -56,7 +56,7 @@ def apart_at(one, other, goals, habits):
 
 def is_apart_at(one, other, goals, habits, thing):
     """Whether thing is such a pair, the least one or not."""
-    if not is_tuple_of(thing, 2) or not is_name_set(thing[0]) or not is_name(thing[1]):
+    if not is_tuple_of(thing, 2) or not is_name_set(thing[0]):
         return False
     variant, sheet = thing
     if not is_part_of(variant, flags_of_both(one, other)) or sheet not in goals:
