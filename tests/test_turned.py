@@ -345,6 +345,7 @@ class Flags(unittest.TestCase):
         lone = (("p", "f", ("a",), "x", (("u", 1), ("v", 0))), ("q", "g", ("b",), "y", ()))
         self.assertEqual(idle_flags(lone, ("y",), ()), (("p", "u"), ("p", "v")))
         self.assertEqual(idle_flags(lone, ("x",), ()), ())
+        self.assertEqual(idle_flags(lone, (), ()), (("p", "u"), ("p", "v")))
         # Both makers are even: but then two of them would run.
         self.assertIs(tell_alike(EVEN, (("draft", "sum", ("in", "old"), "out", ()), EVEN[2]), ("page",), (("sum", "even"),)), True)
 
